@@ -5,55 +5,50 @@ import (
 	"testing"
 
 	"burgeon/api"
+	"burgeon/dice"
 	"burgeon/machine"
 )
 
-// dice are numbers that look as if they were drawn, the same ones each time.
-type dice struct{ last uint64 }
-
-// upTo is the next number, from 0 to n - 1.
-func (d *dice) upTo(n int) int {
-	d.last = d.last*6364136223846793005 + 1442695040888963407
-	return int(d.last >> 33 % uint64(n))
-}
+// drawn are processes and picks that dice tell.
+type drawn struct{ *dice.Dice }
 
 // instr draws an instruction, on one of some words from a first one on, in a program of n.
-func (d *dice) instr(first, some, n int) api.Instr {
-	in := api.Instr{Kind: 1 + d.upTo(8), Reg: d.upTo(4), At: first + d.upTo(some), A: uint64(d.upTo(3))}
-	if in.Kind == 8 && d.upTo(4) > 0 { // ends are few, so that there is something ahead of them
+func (d *drawn) instr(first, some, n int) api.Instr {
+	in := api.Instr{Kind: 1 + d.UpTo(8), Reg: d.UpTo(4), At: first + d.UpTo(some), A: uint64(d.UpTo(3))}
+	if in.Kind == 8 && d.UpTo(4) > 0 { // ends are few, so that there is something ahead of them
 		in.Kind = 4
 	}
 	switch in.Kind {
 	case 6:
-		in.B = d.upTo(4)
+		in.B = d.UpTo(4)
 	case 7:
-		in.B = d.upTo(n)
+		in.B = d.UpTo(n)
 	}
 	return in
 }
 
 // proc draws a process that is on those words alone.
-func (d *dice) proc(first, some int) api.Proc {
-	n := 1 + d.upTo(12)
-	p := api.Proc{At: d.upTo(n), Took: d.upTo(3)}
+func (d *drawn) proc(first, some int) api.Proc {
+	n := 1 + d.UpTo(12)
+	p := api.Proc{At: d.UpTo(n), Took: d.UpTo(3)}
 	for range n {
 		p.Prog = append(p.Prog, d.instr(first, some, n))
 	}
 	for i := range p.Regs {
-		p.Regs[i] = uint64(d.upTo(3))
+		p.Regs[i] = uint64(d.UpTo(3))
 	}
-	if d.upTo(10) == 0 {
-		p.Took = 1<<40 - d.upTo(4)
+	if d.UpTo(10) == 0 {
+		p.Took = 1<<40 - d.UpTo(4)
 	}
-	p.Done = d.upTo(20) == 0
+	p.Done = d.UpTo(20) == 0
 	return p
 }
 
 // picks draws n picks, of which some are of no process.
-func (d *dice) picks(n, of int) []int {
+func (d *drawn) picks(n, of int) []int {
 	var out []int
 	for range n {
-		out = append(out, d.upTo(of+2)-1)
+		out = append(out, d.UpTo(of+2)-1)
 	}
 	return out
 }
@@ -100,10 +95,10 @@ func plain(m []uint64, p *api.Proc) {
 
 // TestRunIsStepByStep: all of it, against the chapter's words and against Step.
 func TestRunIsStepByStep(t *testing.T) {
-	d := &dice{last: 1}
+	d := &drawn{dice.From(1)}
 	for round := range 300 {
 		var l []api.Proc
-		for range 1 + d.upTo(8) {
+		for range 1 + d.UpTo(8) {
 			l = append(l, d.proc(0, 3))
 		}
 		m := make([]uint64, 64)
@@ -134,7 +129,7 @@ func TestRunIsStepByStep(t *testing.T) {
 
 // TestARunInTwoParts: it comes to the same as in one.
 func TestARunInTwoParts(t *testing.T) {
-	d := &dice{last: 2}
+	d := &drawn{dice.From(2)}
 	for range 50 {
 		l := []api.Proc{d.proc(0, 2), d.proc(0, 2), d.proc(0, 2)}
 		picks := d.picks(30, 3)
@@ -162,10 +157,10 @@ func count(picks []int, who int) int {
 
 // TestStepsAreThePicks: a process takes as many steps as it is picked for, till it ends, or took 2^40.
 func TestStepsAreThePicks(t *testing.T) {
-	d := &dice{last: 3}
+	d := &drawn{dice.From(3)}
 	for range 300 {
 		l := []api.Proc{d.proc(0, 3), d.proc(0, 3), d.proc(0, 3), d.proc(0, 3)}
-		picks := d.picks(1+d.upTo(60), len(l))
+		picks := d.picks(1+d.UpTo(60), len(l))
 		_, got, err := machine.Run(words(64), l, picks...)
 		if err != api.OK {
 			t.Fatalf("Run: %d", err)
@@ -201,7 +196,7 @@ func TestAProcessOfAFewSteps(t *testing.T) {
 
 // TestOwnWords: each of eight processes is on words of its own: it comes to the same as alone, however the picks lie.
 func TestOwnWords(t *testing.T) {
-	d := &dice{last: 4}
+	d := &drawn{dice.From(4)}
 	for range 100 {
 		var l []api.Proc
 		for i := range 8 {
@@ -210,7 +205,7 @@ func TestOwnWords(t *testing.T) {
 		picks := d.picks(150, len(l))
 		for range 3 {
 			for i := range picks { // the same picks in another order
-				j := d.upTo(len(picks))
+				j := d.UpTo(len(picks))
 				picks[i], picks[j] = picks[j], picks[i]
 			}
 			gotM, got, err := machine.Run(words(64), l, picks...)
@@ -229,7 +224,7 @@ func TestOwnWords(t *testing.T) {
 
 // TestWordsAloneTellOfOthers: a process comes to the same beside others of whatever kind, that it is not on one word with.
 func TestWordsAloneTellOfOthers(t *testing.T) {
-	d := &dice{last: 5}
+	d := &drawn{dice.From(5)}
 	for range 100 {
 		p := d.proc(0, 32)
 		picks := slices.Repeat([]int{0, 1, 2}, 20)
@@ -243,7 +238,7 @@ func TestWordsAloneTellOfOthers(t *testing.T) {
 
 // TestNoCallChangesItsLists: neither the words, nor the processes, nor their programs, nor the picks; not behind their lengths either.
 func TestNoCallChangesItsLists(t *testing.T) {
-	d := &dice{last: 6}
+	d := &drawn{dice.From(6)}
 	for range 100 {
 		m, l, picks := words(70), []api.Proc{d.proc(0, 4), d.proc(0, 4), d.proc(0, 4), d.proc(0, 4)}, d.picks(60, 3)
 		for i := range l {
