@@ -4,13 +4,14 @@ import (
 	"testing"
 
 	"burgeon/api"
+	"burgeon/garden"
 	"burgeon/order"
 )
 
 // The key of each place has that place, and no other key has it but those between.
 func TestKeysOfPlaces(t *testing.T) {
-	for _, l := range contents() {
-		a, r := garden(l, 7)
+	for _, l := range garden.Contents() {
+		a, r := garden.Of(l, 7)
 		size, err := order.Size(a, r)
 		if err != api.OK {
 			t.Fatalf("Size: %d", err)
@@ -31,8 +32,8 @@ func TestKeysOfPlaces(t *testing.T) {
 
 // Floor and Ceil of a key that is there are both it.
 func TestFloorAndCeilOfKeysThatAreThere(t *testing.T) {
-	for _, l := range contents() {
-		a, r := garden(l, 7)
+	for _, l := range garden.Contents() {
+		a, r := garden.Of(l, 7)
 		for _, item := range l {
 			low, lowErr := order.Floor(a, r, item.K)
 			high, highErr := order.Ceil(a, r, item.K)
@@ -69,9 +70,9 @@ func sideBySide(t *testing.T, a api.Arena, r api.Ref, key int64, size int) {
 }
 
 func TestFloorAndCeilOfKeysThatAreNot(t *testing.T) {
-	for _, l := range contents() {
-		a, r := garden(l, 7)
-		for _, key := range some(keysOf(l), 150) {
+	for _, l := range garden.Contents() {
+		a, r := garden.Of(l, 7)
+		for _, key := range garden.Some(garden.KeysOf(l), 150) {
 			if placeOf(l, key) == len(l) || l[placeOf(l, key)].K != key {
 				sideBySide(t, a, r, key, len(l))
 			}

@@ -8,6 +8,7 @@ import (
 	"burgeon/api"
 	"burgeon/arena"
 	"burgeon/dice"
+	"burgeon/garden"
 	"burgeon/order"
 	"burgeon/treap"
 )
@@ -48,15 +49,15 @@ func checkKey(t *testing.T, a api.Arena, r api.Ref, l []api.Item, key int64) {
 // checkOrder asks for some keys and places of a map, and sees that the arena stays as it is.
 func checkOrder(t *testing.T, a api.Arena, r api.Ref, l []api.Item, n int) {
 	t.Helper()
-	before := clone(a)
+	before := garden.Clone(a)
 	checkSize(t, a, r, l)
-	for _, place := range some(placesOf(l), n) {
+	for _, place := range garden.Some(placesOf(l), n) {
 		checkAt(t, a, r, l, place)
 	}
-	for _, key := range some(keysOf(l), n) {
+	for _, key := range garden.Some(garden.KeysOf(l), n) {
 		checkKey(t, a, r, l, key)
 	}
-	if !same(a, before) {
+	if !garden.Same(a, before) {
 		t.Fatal("a call changed the arena that it was handed")
 	}
 }
@@ -72,20 +73,20 @@ func placesOf(l []api.Item) []int {
 
 func TestSize(t *testing.T) {
 	for n := range int64(201) {
-		a, r := garden(from(1, n, 1), 511-int(n))
-		checkSize(t, a, r, from(1, n, 1))
+		a, r := garden.Of(garden.From(1, n, 1), 511-int(n))
+		checkSize(t, a, r, garden.From(1, n, 1))
 	}
-	for _, l := range contents() {
+	for _, l := range garden.Contents() {
 		for _, free := range []int{0, 1, 300} {
-			a, r := garden(l, free)
+			a, r := garden.Of(l, free)
 			checkSize(t, a, r, l)
 		}
 	}
 }
 
 func TestAt(t *testing.T) {
-	for _, l := range contents() {
-		a, r := garden(l, 7)
+	for _, l := range garden.Contents() {
+		a, r := garden.Of(l, 7)
 		for _, place := range placesOf(l) {
 			checkAt(t, a, r, l, place)
 		}
@@ -95,8 +96,8 @@ func TestAt(t *testing.T) {
 // Places far beyond are none, though some of them are a map's if they are cut to fewer bits.
 func TestAtFarBeyond(t *testing.T) {
 	far := []int{-200, -201, 199, 200, 201, 256, 511, 512, 513, 65536, 1 << 30, math.MaxInt32, math.MaxInt32 + 1, math.MinInt32, math.MinInt32 - 1, 1 << 32, 1<<32 + 1, -1 << 32, math.MaxInt, math.MaxInt - 1, math.MinInt, math.MinInt + 1, math.MinInt + 2}
-	for _, l := range contents() {
-		a, r := garden(l, 7)
+	for _, l := range garden.Contents() {
+		a, r := garden.Of(l, 7)
 		for _, place := range far {
 			checkAt(t, a, r, l, place)
 		}
@@ -104,12 +105,12 @@ func TestAtFarBeyond(t *testing.T) {
 }
 
 func TestKeys(t *testing.T) {
-	for _, l := range contents() {
-		a, r := garden(l, 7)
-		for _, key := range some(keysOf(l), 150) {
+	for _, l := range garden.Contents() {
+		a, r := garden.Of(l, 7)
+		for _, key := range garden.Some(garden.KeysOf(l), 150) {
 			checkKey(t, a, r, l, key)
 		}
-		for _, key := range edgeKeys {
+		for _, key := range garden.EdgeKeys() {
 			checkKey(t, a, r, l, key)
 		}
 	}
@@ -117,8 +118,8 @@ func TestKeys(t *testing.T) {
 
 // All keys of 200, and all between and beside them.
 func TestKeysOf200(t *testing.T) {
-	l := from(-600, 597, 6)
-	a, r := garden(l, 7)
+	l := garden.From(-600, 597, 6)
+	a, r := garden.Of(l, 7)
 	for key := int64(-610); key < 610; key++ {
 		checkKey(t, a, r, l, key)
 	}
@@ -131,7 +132,7 @@ func TestNoKeys(t *testing.T) {
 			t.Fatalf("New: %d", err)
 		}
 		checkOrder(t, a, 0, nil, 100)
-		for _, key := range edgeKeys {
+		for _, key := range garden.EdgeKeys() {
 			checkKey(t, a, 0, nil, key)
 		}
 	}
@@ -140,37 +141,37 @@ func TestNoKeys(t *testing.T) {
 // Values are answered as they are; one that is 0 is no sign of a key that is not there.
 func TestValues(t *testing.T) {
 	var l []api.Item
-	for i, v := range []int64{0, 1, -1, most + 1, math.MaxInt64, math.MinInt64} {
+	for i, v := range []int64{0, 1, -1, garden.Most + 1, math.MaxInt64, math.MinInt64} {
 		l = append(l, api.Item{K: int64(i * 2), V: v})
 	}
-	a, r := garden(l, 0)
+	a, r := garden.Of(l, 0)
 	checkOrder(t, a, r, l, 100)
-	a, r = garden([]api.Item{{}}, 0) // key 0, with 0
+	a, r = garden.Of([]api.Item{{}}, 0) // key 0, with 0
 	checkOrder(t, a, r, []api.Item{{}}, 100)
 }
 
 // Each node of a map is the top of one, too, whose places are its own.
 func TestEachNode(t *testing.T) {
-	a, _ := garden(from(-600, 597, 6), 7)
+	a, _ := garden.Of(garden.From(-600, 597, 6), 7)
 	for i, n := range a.Nodes {
 		if n.Kind == api.KTreap {
-			r := at(i, n.Gen)
-			checkOrder(t, a, r, held(a, r), 6)
+			r := garden.At(i, n.Gen)
+			checkOrder(t, a, r, garden.Held(a, r), 6)
 		}
 	}
 }
 
 // One arena has many maps, and nodes of other kinds between.
 func TestMapsBesideOthers(t *testing.T) {
-	a := ground(300)
+	a := garden.Ground(300)
 	var refs []api.Ref
 	for i := range int64(5) {
-		r := planted(&a, from(10*i, 10*i+40, 2))
+		r := garden.Plant(&a, garden.From(10*i, 10*i+40, 2))
 		refs = append(refs, r)
-		written(&a, api.Node{Kind: int(2 + i), N: i, S: 7, Pre: 9, Suf: 9, Kids: [9]api.Ref{8: r}})
+		garden.Write(&a, api.Node{Kind: int(2 + i), N: i, S: 7, Pre: 9, Suf: 9, Kids: [9]api.Ref{8: r}})
 	}
 	for i, r := range refs {
-		checkOrder(t, a, r, from(10*int64(i), 10*int64(i)+40, 2), 100)
+		checkOrder(t, a, r, garden.From(10*int64(i), 10*int64(i)+40, 2), 100)
 	}
 }
 
@@ -204,7 +205,7 @@ func TestMapsOfCalls(t *testing.T) {
 
 // The example of the chapter.
 func TestTheExample(t *testing.T) {
-	a, r := garden([]api.Item{{K: 1, V: 10}, {K: 5, V: 50}, {K: 9, V: 90}}, 3)
+	a, r := garden.Of([]api.Item{{K: 1, V: 10}, {K: 5, V: 50}, {K: 9, V: 90}}, 3)
 	if place, err := order.Rank(a, r, 6); place != 2 || err != api.OK {
 		t.Errorf("Rank: %d, %d", place, err)
 	}

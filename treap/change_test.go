@@ -7,6 +7,7 @@ import (
 
 	"burgeon/api"
 	"burgeon/dice"
+	"burgeon/garden"
 	"burgeon/treap"
 )
 
@@ -16,8 +17,8 @@ func room(keys int) int { return min(wants(keys+1), 511-keys) }
 // checkPut has a key be put, and holds the answer against what it must be.
 func checkPut(t *testing.T, l []api.Item, key, v int64) {
 	t.Helper()
-	a, r := garden(l, room(len(l)))
-	before := clone(a)
+	a, r := garden.Of(l, room(len(l)))
+	before := garden.Clone(a)
 	b, s, err := treap.Put(a, r, key, v)
 	if err != api.OK {
 		t.Fatalf("Put %d of %d keys: %d", key, len(l), err)
@@ -26,13 +27,13 @@ func checkPut(t *testing.T, l []api.Item, key, v int64) {
 	checkMap(t, b, s, want)
 	checkMap(t, b, r, l)
 	checkGrown(t, before, b, wants(len(want)))
-	if !same(a, before) {
+	if !garden.Same(a, before) {
 		t.Fatal("Put changed the arena that it was handed")
 	}
 }
 
 // edgeKeys are keys that may be put.
-var edgeKeys = []int64{-most, -most + 1, -101, -100, -1, 0, 1, 2, 5, 6, 9, 99, 100, 101, 199, 200, 201, most - 1, most}
+var edgeKeys = []int64{-garden.Most, -garden.Most + 1, -101, -100, -1, 0, 1, 2, 5, 6, 9, 99, 100, 101, 199, 200, 201, garden.Most - 1, garden.Most}
 
 func TestPut(t *testing.T) {
 	for _, l := range contents() {
@@ -45,7 +46,7 @@ func TestPut(t *testing.T) {
 }
 
 func TestPutOfValues(t *testing.T) {
-	for _, v := range []int64{0, 1, -1, most + 1, math.MaxInt64, math.MinInt64} {
+	for _, v := range []int64{0, 1, -1, garden.Most + 1, math.MaxInt64, math.MinInt64} {
 		checkPut(t, nil, 5, v)
 		checkPut(t, upTo(20), 5, v)
 		checkPut(t, upTo(20), 21, v)
@@ -56,12 +57,12 @@ func TestPutOfValues(t *testing.T) {
 // Keys that are there, of 200, are put again, of the first ones each; no other one is put beside them.
 func TestPutAt200Keys(t *testing.T) {
 	step := 1
-	for _, l := range [][]api.Item{upTo(200), from(-100, 99), from(most-199, most), from(-most, -most+199)} {
+	for _, l := range [][]api.Item{upTo(200), garden.From(-100, 99, 1), garden.From(garden.Most-199, garden.Most, 1), garden.From(-garden.Most, -garden.Most+199, 1)} {
 		for i := 0; i < len(l); i += step {
 			checkPut(t, l, l[i].K, 77)
 		}
 		step = 11
-		a, r := garden(l, 300)
+		a, r := garden.Of(l, 300)
 		for _, key := range append(edgeKeys, l[0].K-1, l[199].K+1) {
 			if has(l, key) {
 				continue
@@ -77,8 +78,8 @@ func TestPutAt200Keys(t *testing.T) {
 func TestPutOfThe201stKey(t *testing.T) {
 	checkPut(t, upTo(199), 200, 1)
 	checkPut(t, upTo(199), 0, 1)
-	checkPut(t, itemsOf(), 0, 1)
-	a, r := garden(upTo(200), 200)
+	checkPut(t, garden.Items(), 0, 1)
+	a, r := garden.Of(upTo(200), 200)
 	if _, _, err := treap.Put(a, r, 201, 1); err != api.ErrRange {
 		t.Fatalf("Put of the 201st key: %d", err)
 	}
@@ -94,11 +95,11 @@ func TestPutOfThe201stKey(t *testing.T) {
 }
 
 // farKeys are keys that are not put.
-var farKeys = []int64{-most - 1, most + 1, -most - 2, most + 2, 1 << 31, -1 << 31, 1 << 32, 1<<32 + 5, lowKey, lowKey + 1, topKey, topKey - 1}
+var farKeys = []int64{-garden.Most - 1, garden.Most + 1, -garden.Most - 2, garden.Most + 2, 1 << 31, -1 << 31, 1 << 32, 1<<32 + 5, garden.Low, garden.Low + 1, garden.Top, garden.Top - 1}
 
 func TestPutOfKeysBeyond(t *testing.T) {
 	for _, l := range contents() {
-		a, r := garden(l, room(len(l)))
+		a, r := garden.Of(l, room(len(l)))
 		for _, key := range farKeys { // some are there, too
 			if b, s, err := treap.Put(a, r, key, 1); err != api.ErrRange || s != 0 || !empty(b) {
 				t.Errorf("Put %d of %v: %d nodes, %d, %d", key, l, len(b.Nodes), s, err)
@@ -110,8 +111,8 @@ func TestPutOfKeysBeyond(t *testing.T) {
 // checkDel has a key be gone, and holds the answer against what it must be.
 func checkDel(t *testing.T, l []api.Item, key int64) {
 	t.Helper()
-	a, r := garden(l, room(len(l)))
-	before := clone(a)
+	a, r := garden.Of(l, room(len(l)))
+	before := garden.Clone(a)
 	b, s, err := treap.Del(a, r, key)
 	if !has(l, key) {
 		if err != api.ErrNone || s != 0 || !empty(b) {
@@ -126,7 +127,7 @@ func checkDel(t *testing.T, l []api.Item, key int64) {
 	checkMap(t, b, s, want)
 	checkMap(t, b, r, l)
 	checkGrown(t, before, b, wants(len(want)))
-	if !same(a, before) {
+	if !garden.Same(a, before) {
 		t.Fatal("Del changed the arena that it was handed")
 	}
 }
@@ -148,8 +149,8 @@ func TestDel(t *testing.T) {
 // checkSplit has a map be parted, and holds the answer against what it must be.
 func checkSplit(t *testing.T, l []api.Item, key int64) {
 	t.Helper()
-	a, r := garden(l, room(len(l)))
-	before := clone(a)
+	a, r := garden.Of(l, room(len(l)))
+	before := garden.Clone(a)
 	b, low, high, err := treap.Split(a, r, key)
 	if err != api.OK {
 		t.Fatalf("Split %d of %v: %d", key, l, err)
@@ -158,7 +159,7 @@ func checkSplit(t *testing.T, l []api.Item, key int64) {
 	checkMap(t, b, high, others(l, key))
 	checkMap(t, b, r, l)
 	checkGrown(t, before, b, wants(len(l)))
-	if !same(a, before) {
+	if !garden.Same(a, before) {
 		t.Fatal("Split changed the arena that it was handed")
 	}
 }
@@ -170,7 +171,7 @@ func TestSplit(t *testing.T) {
 		}
 		for i := 0; i < len(l); i += 1 + len(l)/8 {
 			checkSplit(t, l, l[i].K)
-			if l[i].K < topKey {
+			if l[i].K < garden.Top {
 				checkSplit(t, l, l[i].K+1)
 			}
 		}
@@ -179,12 +180,12 @@ func TestSplit(t *testing.T) {
 
 // A map that is parted below all of its keys, or above them, is one of the two.
 func TestSplitAtTheEnds(t *testing.T) {
-	l := itemsOf(10, 20, 30)
-	for key, low := range map[int64]int{lowKey: 0, 9: 0, 10: 0, 11: 1, 20: 1, 21: 2, 29: 2, 30: 2, 31: 3, topKey: 3} {
-		a, r := garden(l, room(3))
+	l := garden.Items(10, 20, 30)
+	for key, low := range map[int64]int{garden.Low: 0, 9: 0, 10: 0, 11: 1, 20: 1, 21: 2, 29: 2, 30: 2, 31: 3, garden.Top: 3} {
+		a, r := garden.Of(l, room(3))
 		b, left, right, err := treap.Split(a, r, key)
-		if err != api.OK || !slices.Equal(held(b, left), l[:low]) || !slices.Equal(held(b, right), l[low:]) {
-			t.Errorf("Split %d: %v and %v, %d", key, held(b, left), held(b, right), err)
+		if err != api.OK || !slices.Equal(garden.Held(b, left), l[:low]) || !slices.Equal(garden.Held(b, right), l[low:]) {
+			t.Errorf("Split %d: %v and %v, %d", key, garden.Held(b, left), garden.Held(b, right), err)
 		}
 		if low == 0 && left != 0 || low == 3 && right != 0 {
 			t.Errorf("Split %d: %d and %d", key, left, right)
@@ -195,9 +196,9 @@ func TestSplitAtTheEnds(t *testing.T) {
 // pair are two maps of one arena.
 func pair(left, right []api.Item) (api.Arena, api.Ref, api.Ref) {
 	n := len(left) + len(right)
-	a := ground(min(512, n+wants(n)))
-	r := planted(&a, left)
-	s := planted(&a, right)
+	a := garden.Ground(min(512, n+wants(n)))
+	r := garden.Plant(&a, left)
+	s := garden.Plant(&a, right)
 	return a, r, s
 }
 
@@ -205,7 +206,7 @@ func pair(left, right []api.Item) (api.Arena, api.Ref, api.Ref) {
 func checkJoin(t *testing.T, left, right []api.Item) {
 	t.Helper()
 	a, r, s := pair(left, right)
-	before := clone(a)
+	before := garden.Clone(a)
 	b, u, err := treap.Join(a, r, s)
 	if err != api.OK {
 		t.Fatalf("Join of %v and %v: %d", left, right, err)
@@ -215,7 +216,7 @@ func checkJoin(t *testing.T, left, right []api.Item) {
 	checkMap(t, b, r, left)
 	checkMap(t, b, s, right)
 	checkGrown(t, before, b, wants(len(want)))
-	if !same(a, before) {
+	if !garden.Same(a, before) {
 		t.Fatal("Join changed the arena that it was handed")
 	}
 }
@@ -229,15 +230,15 @@ func TestJoin(t *testing.T) {
 		checkJoin(t, nil, l)
 	}
 	for i := range int64(101) {
-		checkJoin(t, upTo(i), from(i+1, 100))
-		checkJoin(t, upTo(i), from(1000, 1099))
+		checkJoin(t, upTo(i), garden.From(i+1, 100, 1))
+		checkJoin(t, upTo(i), garden.From(1000, 1099, 1))
 	}
 	checkJoin(t, upTo(200), nil)
 	checkJoin(t, nil, upTo(200))
-	checkJoin(t, upTo(1), from(2, 200))
-	checkJoin(t, upTo(199), from(200, 200))
-	checkJoin(t, upTo(100), from(101, 200))
-	checkJoin(t, itemsOf(lowKey), itemsOf(topKey))
+	checkJoin(t, upTo(1), garden.From(2, 200, 1))
+	checkJoin(t, upTo(199), garden.From(200, 200, 1))
+	checkJoin(t, upTo(100), garden.From(101, 200, 1))
+	checkJoin(t, garden.Items(garden.Low), garden.Items(garden.Top))
 }
 
 // refuseJoin has two maps be put together that are not.
@@ -251,35 +252,35 @@ func refuseJoin(t *testing.T, left, right []api.Item) {
 
 func TestJoinOfKeysThatAreNotBelow(t *testing.T) {
 	for _, c := range [][2][]api.Item{
-		{upTo(1), upTo(1)},               // equal
-		{upTo(10), upTo(10)},             // equal
-		{upTo(10), from(10, 20)},         // they meet
-		{upTo(10), from(9, 20)},          // they overlap
-		{upTo(10), from(5, 6)},           // one is within the other one
-		{from(5, 6), upTo(10)},           // so, the other way round
-		{from(11, 20), upTo(10)},         // above
-		{from(10, 20), upTo(10)},         // above, and they meet
-		{itemsOf(1, 100), itemsOf(2)},    // the greatest one alone
-		{itemsOf(50), itemsOf(49, 1000)}, // the least one alone
-		{itemsOf(1, 3, 5), itemsOf(2, 4, 6)},
-		{itemsOf(topKey), itemsOf(lowKey)},
-		{itemsOf(topKey), itemsOf(topKey)},
-		{itemsOf(lowKey), itemsOf(lowKey)},
+		{upTo(1), upTo(1)},                         // equal
+		{upTo(10), upTo(10)},                       // equal
+		{upTo(10), garden.From(10, 20, 1)},         // they meet
+		{upTo(10), garden.From(9, 20, 1)},          // they overlap
+		{upTo(10), garden.From(5, 6, 1)},           // one is within the other one
+		{garden.From(5, 6, 1), upTo(10)},           // so, the other way round
+		{garden.From(11, 20, 1), upTo(10)},         // above
+		{garden.From(10, 20, 1), upTo(10)},         // above, and they meet
+		{garden.Items(1, 100), garden.Items(2)},    // the greatest one alone
+		{garden.Items(50), garden.Items(49, 1000)}, // the least one alone
+		{garden.Items(1, 3, 5), garden.Items(2, 4, 6)},
+		{garden.Items(garden.Top), garden.Items(garden.Low)},
+		{garden.Items(garden.Top), garden.Items(garden.Top)},
+		{garden.Items(garden.Low), garden.Items(garden.Low)},
 		{upTo(200), upTo(200)},
-		{from(201, 400), upTo(200)},
+		{garden.From(201, 400, 1), upTo(200)},
 	} {
 		refuseJoin(t, c[0], c[1])
 	}
 	d := dice.From(63)
 	for range 300 {
 		low, size := int64(d.UpTo(100)), int64(1+d.UpTo(20))
-		refuseJoin(t, from(low, low+size), from(low+size-int64(d.UpTo(30)), low+size+int64(d.UpTo(20))))
+		refuseJoin(t, garden.From(low, low+size, 1), garden.From(low+size-int64(d.UpTo(30)), low+size+int64(d.UpTo(20)), 1))
 	}
 }
 
 // A map is not put together with itself, nor with a part of it, but an empty one is.
 func TestJoinOfOneMapTwice(t *testing.T) {
-	a, r := garden(upTo(10), 30)
+	a, r := garden.Of(upTo(10), 30)
 	if b, s, err := treap.Join(a, r, r); err != api.ErrRange || s != 0 || !empty(b) {
 		t.Errorf("Join of a map with itself: %d nodes, %d, %d", len(b.Nodes), s, err)
 	}
@@ -287,12 +288,12 @@ func TestJoinOfOneMapTwice(t *testing.T) {
 		if n.Kind != api.KTreap {
 			continue
 		}
-		if b, s, err := treap.Join(a, r, at(i, n.Gen)); err != api.ErrRange || s != 0 || !empty(b) {
+		if b, s, err := treap.Join(a, r, garden.At(i, n.Gen)); err != api.ErrRange || s != 0 || !empty(b) {
 			t.Errorf("Join of a map with a part of it: %d nodes, %d, %d", len(b.Nodes), s, err)
 		}
 		checkPartsJoined(t, a, n)
 	}
-	if b, s, err := treap.Join(a, 0, 0); err != api.OK || s != 0 || !same(a, b) {
+	if b, s, err := treap.Join(a, 0, 0); err != api.OK || s != 0 || !garden.Same(a, b) {
 		t.Errorf("Join of two empty maps: %d nodes, %d, %d", len(b.Nodes), s, err)
 	}
 }
@@ -304,11 +305,11 @@ func checkPartsJoined(t *testing.T, a api.Arena, n api.Node) {
 	if err != api.OK {
 		t.Fatalf("Join of parts of one map: %d", err)
 	}
-	checkMap(t, b, s, slices.Concat(held(a, n.Kids[0]), held(a, n.Kids[1])))
+	checkMap(t, b, s, slices.Concat(garden.Held(a, n.Kids[0]), garden.Held(a, n.Kids[1])))
 }
 
 func TestJoinOfMoreThan200Keys(t *testing.T) {
 	for _, c := range [][2]int64{{200, 1}, {1, 200}, {100, 101}, {101, 100}, {200, 200}, {199, 2}, {2, 199}} {
-		refuseJoin(t, upTo(c[0]), from(1000, 999+c[1]))
+		refuseJoin(t, upTo(c[0]), garden.From(1000, 999+c[1], 1))
 	}
 }

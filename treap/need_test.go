@@ -6,6 +6,7 @@ import (
 
 	"burgeon/api"
 	"burgeon/arena"
+	"burgeon/garden"
 	"burgeon/treap"
 )
 
@@ -93,10 +94,10 @@ func (c change) needOf() int {
 // try does a change of a map beside which so many nodes are free, and tells how many were made; -1, if a node found none free.
 func (c change) try(t *testing.T, l []api.Item, free int) int {
 	t.Helper()
-	a, r := garden(l, free)
-	before := clone(a)
+	a, r := garden.Of(l, free)
+	before := garden.Clone(a)
 	b, refs, err := c.call(a, r)
-	if !same(a, before) {
+	if !garden.Same(a, before) {
 		t.Fatalf("%s changed the arena that it was handed", c.name)
 	}
 	if err == api.ErrFull {
@@ -118,9 +119,9 @@ func (c change) try(t *testing.T, l []api.Item, free int) int {
 
 // smallContents are what maps hold in whose arenas all numbers of free nodes are tried.
 func smallContents() [][]api.Item {
-	l := [][]api.Item{nil, itemsOf(5), itemsOf(1, 5, 9), itemsOf(999, 5), from(10, 14)}
+	l := [][]api.Item{nil, garden.Items(5), garden.Items(1, 5, 9), garden.Items(999, 5), garden.From(10, 14, 1)}
 	for n := range int64(9) {
-		l = append(l, upTo(n), from(20-n, 20+n))
+		l = append(l, upTo(n), garden.From(20-n, 20+n, 1))
 	}
 	return l
 }
@@ -145,7 +146,7 @@ func TestNeed(t *testing.T) {
 }
 
 func TestNeedOfMany(t *testing.T) {
-	for _, l := range [][]api.Item{upTo(60), upTo(150), itemsOf(row(150, false)...), itemsOf(row(150, true)...)} {
+	for _, l := range [][]api.Item{upTo(60), upTo(150), garden.Items(row(150, false)...), garden.Items(row(150, true)...)} {
 		for _, c := range changes(l) {
 			need := c.needOf()
 			makes := c.try(t, l, need)
@@ -170,11 +171,11 @@ func TestNeedOfMany(t *testing.T) {
 // A path of as many nodes as the map has keys is copied as a whole.
 func TestNeedOfARow(t *testing.T) {
 	keys := row(150, false)
-	l := itemsOf(keys[:149]...)
+	l := garden.Items(keys[:149]...)
 	if makes := putting(l, keys[149], 7).try(t, l, wants(150)); makes != 150 {
 		t.Errorf("%d nodes are made of a path of 150", makes)
 	}
-	all := itemsOf(keys...)
+	all := garden.Items(keys...)
 	if makes := deleting(all, keys[149]).try(t, all, wants(149)); makes != 149 {
 		t.Errorf("%d nodes are made of a path of 149", makes)
 	}
@@ -195,7 +196,7 @@ func places(t *testing.T, a api.Arena, refs ...api.Ref) []int {
 func TestWhatIsMade(t *testing.T) {
 	for _, l := range append(smallContents(), upTo(60), upTo(200)) {
 		for _, c := range changes(l) {
-			a, r := garden(l, 511-len(l))
+			a, r := garden.Of(l, 511-len(l))
 			b, refs, err := c.call(a, r)
 			if err != api.OK {
 				t.Fatalf("%s: %d", c.name, err)
@@ -207,7 +208,7 @@ func TestWhatIsMade(t *testing.T) {
 			}
 			for _, p := range isNew {
 				n := b.Nodes[p]
-				if slices.ContainsFunc(was, func(old int) bool { return alike(b, at(p, n.Gen), b, at(old, b.Nodes[old].Gen)) }) {
+				if slices.ContainsFunc(was, func(old int) bool { return alike(b, garden.At(p, n.Gen), b, garden.At(old, b.Nodes[old].Gen)) }) {
 					t.Fatalf("%s of %v makes %v, which was there", c.name, l, n)
 				}
 			}
@@ -217,7 +218,7 @@ func TestWhatIsMade(t *testing.T) {
 
 // Where no node is free: what needs one is not done, each time; what is not done for another cause tells that; what needs none is done.
 func TestWhereNoneIsFree(t *testing.T) {
-	a, r := garden(upTo(200), 0)
+	a, r := garden.Of(upTo(200), 0)
 	full := func(name string, err, want api.Errno) {
 		t.Helper()
 		if err != want {
@@ -226,11 +227,11 @@ func TestWhereNoneIsFree(t *testing.T) {
 	}
 	_, _, err := treap.Put(a, r, 201, 1)
 	full("Put of the 201st key", err, api.ErrRange)
-	_, _, err = treap.Put(a, r, most+1, 1)
+	_, _, err = treap.Put(a, r, garden.Most+1, 1)
 	full("Put of a key that is too great", err, api.ErrRange)
-	_, _, err = treap.Put(a, r, -most-1, 1)
+	_, _, err = treap.Put(a, r, -garden.Most-1, 1)
 	full("Put of a key that is too small", err, api.ErrRange)
-	_, _, err = treap.Put(a, 0, most+1, 1)
+	_, _, err = treap.Put(a, 0, garden.Most+1, 1)
 	full("Put of a key that is too great, in an empty map", err, api.ErrRange)
 	_, _, err = treap.Put(a, 0, 5, 1)
 	full("Put in an empty map", err, api.ErrFull)
@@ -251,21 +252,21 @@ func TestWhereNoneIsFree(t *testing.T) {
 
 // Some calls make no node: these are done where none is free, and answer what was there.
 func TestWhatMakesNone(t *testing.T) {
-	a, r := garden(upTo(20), 0)
-	for _, key := range []int64{lowKey, 0, 1, 21, 22, topKey} {
+	a, r := garden.Of(upTo(20), 0)
+	for _, key := range []int64{garden.Low, 0, 1, 21, 22, garden.Top} {
 		b, low, high, err := treap.Split(a, r, key)
-		if err != api.OK || !same(a, b) || key < 10 && (low != 0 || high != r) || key > 10 && (low != r || high != 0) {
+		if err != api.OK || !garden.Same(a, b) || key < 10 && (low != 0 || high != r) || key > 10 && (low != r || high != 0) {
 			t.Errorf("Split %d: %d, %d, %d", key, low, high, err)
 		}
 	}
 	for _, c := range [][2]api.Ref{{r, 0}, {0, r}} {
-		if b, s, err := treap.Join(a, c[0], c[1]); err != api.OK || s != r || !same(a, b) {
+		if b, s, err := treap.Join(a, c[0], c[1]); err != api.OK || s != r || !garden.Same(a, b) {
 			t.Errorf("Join %d, %d: %d, %d", c[0], c[1], s, err)
 		}
 	}
-	leaf := leafOf(a)
+	leaf := garden.LeafOf(a)
 	n, _ := arena.Get(a, leaf)
-	if b, s, err := treap.Del(a, leaf, n.N); err != api.OK || s != 0 || !same(a, b) {
+	if b, s, err := treap.Del(a, leaf, n.N); err != api.OK || s != 0 || !garden.Same(a, b) {
 		t.Errorf("Del of the one key: %d, %d", s, err)
 	}
 }

@@ -8,6 +8,7 @@ import (
 	"burgeon/api"
 	"burgeon/arena"
 	"burgeon/dice"
+	"burgeon/garden"
 	"burgeon/treap"
 )
 
@@ -15,24 +16,24 @@ import (
 func contents() [][]api.Item {
 	l := [][]api.Item{
 		nil,
-		itemsOf(0), itemsOf(5), itemsOf(-most), itemsOf(most), itemsOf(lowKey), itemsOf(topKey),
-		itemsOf(1, 5, 9), itemsOf(-7, 3, 0, 4, 5, -6, 2), itemsOf(-most, 0, most),
-		itemsOf(lowKey, topKey), itemsOf(lowKey, lowKey+1, -1, 0, 1, topKey-1, topKey),
-		itemsOf(-most-1, -most, most, most+1),
-		upTo(2), upTo(10), upTo(199), upTo(200), from(-100, 99),
-		itemsOf(row(200, false)...), itemsOf(row(199, true)...),
+		garden.Items(0), garden.Items(5), garden.Items(-garden.Most), garden.Items(garden.Most), garden.Items(garden.Low), garden.Items(garden.Top),
+		garden.Items(1, 5, 9), garden.Items(-7, 3, 0, 4, 5, -6, 2), garden.Items(-garden.Most, 0, garden.Most),
+		garden.Items(garden.Low, garden.Top), garden.Items(garden.Low, garden.Low+1, -1, 0, 1, garden.Top-1, garden.Top),
+		garden.Items(-garden.Most-1, -garden.Most, garden.Most, garden.Most+1),
+		upTo(2), upTo(10), upTo(199), upTo(200), garden.From(-100, 99, 1),
+		garden.Items(row(200, false)...), garden.Items(row(199, true)...),
 	}
 	d := dice.From(61)
 	for range 4 {
 		keys := map[int64]int{}
 		for range 1 + d.UpTo(200) {
-			keys[int64(d.UpTo(most))-most/2]++
+			keys[int64(d.UpTo(garden.Most))-garden.Most/2]++
 		}
 		var some []int64
 		for key := range keys {
 			some = append(some, key)
 		}
-		l = append(l, itemsOf(some...))
+		l = append(l, garden.Items(some...))
 	}
 	return l
 }
@@ -40,7 +41,7 @@ func contents() [][]api.Item {
 func TestRight(t *testing.T) {
 	for _, l := range contents() {
 		for _, free := range []int{0, 1, 300} {
-			if a, r := garden(l, free); !treap.Right(a, r) {
+			if a, r := garden.Of(l, free); !treap.Right(a, r) {
 				t.Errorf("the map of %v is none", l)
 			}
 		}
@@ -50,7 +51,7 @@ func TestRight(t *testing.T) {
 // A map may be as deep as it has keys.
 func TestRightOfRows(t *testing.T) {
 	for side := range 2 {
-		a := ground(300)
+		a := garden.Ground(300)
 		if r := hung(&a, row(200, side == 0), slices.Repeat([]int{side}, 200)); !treap.Right(a, r) {
 			t.Errorf("a row on the side %d is no map's", side)
 		}
@@ -59,9 +60,9 @@ func TestRightOfRows(t *testing.T) {
 
 // Each node of a map is itself the top of one.
 func TestRightOfEachNode(t *testing.T) {
-	a, _ := garden(upTo(200), 50)
+	a, _ := garden.Of(upTo(200), 50)
 	for i, n := range a.Nodes {
-		if got := treap.Right(a, at(i, n.Gen)); got != (n.Kind == api.KTreap) {
+		if got := treap.Right(a, garden.At(i, n.Gen)); got != (n.Kind == api.KTreap) {
 			t.Errorf("the node %v: %v", n, got)
 		}
 	}
@@ -69,18 +70,18 @@ func TestRightOfEachNode(t *testing.T) {
 
 func TestGet(t *testing.T) {
 	for _, l := range contents() {
-		a, r := garden(l, 7)
-		before := clone(a)
+		a, r := garden.Of(l, 7)
+		before := garden.Clone(a)
 		checkMap(t, a, r, l)
 		for i := range l {
 			checkGot(t, a, r, l, i)
 		}
-		for _, key := range []int64{0, 1, -1, 6, most, -most, most + 1, -most - 1, topKey, lowKey} {
+		for _, key := range []int64{0, 1, -1, 6, garden.Most, -garden.Most, garden.Most + 1, -garden.Most - 1, garden.Top, garden.Low} {
 			if !has(l, key) {
 				checkNone(t, a, r, key)
 			}
 		}
-		if !same(a, before) {
+		if !garden.Same(a, before) {
 			t.Fatal("Get changed the arena that it was handed")
 		}
 	}
@@ -89,34 +90,34 @@ func TestGet(t *testing.T) {
 // A value may be whatever number.
 func TestGetOfValues(t *testing.T) {
 	var l []api.Item
-	for i, v := range []int64{0, 1, -1, most + 1, math.MaxInt64, math.MinInt64} {
+	for i, v := range []int64{0, 1, -1, garden.Most + 1, math.MaxInt64, math.MinInt64} {
 		l = append(l, api.Item{K: int64(i), V: v})
 	}
-	a, r := garden(l, 0)
+	a, r := garden.Of(l, 0)
 	checkMap(t, a, r, l)
 }
 
 // One arena has many maps, and nodes of other kinds between.
 func TestMapsBesideOthers(t *testing.T) {
-	a := ground(300)
+	a := garden.Ground(300)
 	var refs []api.Ref
 	for i := range int64(5) {
-		r := planted(&a, from(10*i, 10*i+20))
+		r := garden.Plant(&a, garden.From(10*i, 10*i+20, 1))
 		refs = append(refs, r)
-		written(&a, api.Node{Kind: int(2 + i), N: i, S: 7, Pre: 9, Suf: 9, Kids: [9]api.Ref{8: r}})
+		garden.Write(&a, api.Node{Kind: int(2 + i), N: i, S: 7, Pre: 9, Suf: 9, Kids: [9]api.Ref{8: r}})
 	}
 	for i, r := range refs {
-		checkMap(t, a, r, from(10*int64(i), 10*int64(i)+20))
+		checkMap(t, a, r, garden.From(10*int64(i), 10*int64(i)+20, 1))
 	}
 }
 
 // changed is an arena with one node changed at random, or none.
 func changed(d *dice.Dice, a api.Arena) api.Arena {
-	a = clone(a)
+	a = garden.Clone(a)
 	i := d.UpTo(len(a.Nodes))
 	n := &a.Nodes[i]
 	other := d.UpTo(len(a.Nodes))
-	ref := at(other, a.Nodes[other].Gen)
+	ref := garden.At(other, a.Nodes[other].Gen)
 	if d.UpTo(4) == 0 {
 		ref = 0
 	}
@@ -147,14 +148,14 @@ func TestRightIsAsTold(t *testing.T) {
 	met := map[bool]int{}
 	for range 6000 {
 		n := int64(1 + d.UpTo(12))
-		a, r := garden(upTo(n), 0)
+		a, r := garden.Of(upTo(n), 0)
 		for range 1 + d.UpTo(3) {
 			a = changed(d, a)
 		}
 		if !arena.Right(a) {
 			t.Fatal("the arena may not be")
 		}
-		got, want := treap.Right(a, r), isMapAsTold(a, r)
+		got, want := treap.Right(a, r), garden.IsMap(a, r)
 		if got != want {
 			t.Fatalf("Right %d of %v: %v", r, a, got)
 		}
@@ -179,7 +180,7 @@ func TestTheExample(t *testing.T) {
 	if v, err := treap.Get(b, first, 5); v != 7 || err != api.OK {
 		t.Errorf("Get of the first reference: %d, %d", v, err)
 	}
-	if !slices.Equal(held(a, first), []api.Item{{K: 5, V: 7}}) {
-		t.Errorf("the first arena holds %v", held(a, first))
+	if !slices.Equal(garden.Held(a, first), []api.Item{{K: 5, V: 7}}) {
+		t.Errorf("the first arena holds %v", garden.Held(a, first))
 	}
 }

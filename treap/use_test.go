@@ -7,6 +7,7 @@ import (
 	"burgeon/api"
 	"burgeon/arena"
 	"burgeon/dice"
+	"burgeon/garden"
 	"burgeon/treap"
 )
 
@@ -42,8 +43,8 @@ func (p *play) come(name string, a api.Arena, err api.Errno, need int, maps ...k
 	p.a = a
 	p.maps = append(p.maps, maps...)
 	for _, m := range p.maps {
-		if !slices.Equal(held(a, m.r), m.l) {
-			p.t.Fatalf("%s: a map holds %v, not %v", name, held(a, m.r), m.l)
+		if !slices.Equal(garden.Held(a, m.r), m.l) {
+			p.t.Fatalf("%s: a map holds %v, not %v", name, garden.Held(a, m.r), m.l)
 		}
 	}
 	for _, m := range maps {
@@ -187,7 +188,7 @@ func orders(keys []int64, hand func([]int64)) {
 }
 
 func TestOneShapeForAllOrders(t *testing.T) {
-	for _, keys := range [][]int64{{1, 5, 9}, {-7, 3, 0, 4, 5}, {-most, -1, 0, 1, most}, row(5, true)} {
+	for _, keys := range [][]int64{{1, 5, 9}, {-7, 3, 0, 4, 5}, {-garden.Most, -1, 0, 1, garden.Most}, row(5, true)} {
 		first, r := grow(t, keys)
 		orders(slices.Clone(keys), func(order []int64) {
 			a, s := grow(t, order)
@@ -273,8 +274,8 @@ func TestOneShapeByOtherCalls(t *testing.T) {
 
 // roomy is a garden whose lists have room behind them, which is filled.
 func roomy() (api.Arena, api.Ref) {
-	a, r := garden(upTo(20), 60)
-	nodes := append(a.Nodes, stone, stone, stone)
+	a, r := garden.Of(upTo(20), 60)
+	nodes := append(a.Nodes, garden.Stone(), garden.Stone(), garden.Stone())
 	free := append(a.Free, 900, 901, 902)
 	return api.Arena{Nodes: nodes[:81], Free: free[:60]}, r
 }
@@ -287,7 +288,7 @@ func answers(a api.Arena, r api.Ref) []api.Arena {
 	ends, _, _, _ := treap.Split(a, r, 0)
 	join, _, _ := treap.Join(a, r, 0)
 	none, _, _ := treap.Join(a, 0, 0)
-	one, _, _ := treap.Del(a, leafOf(a), a.Nodes[int(leafOf(a)%65536)-1].N)
+	one, _, _ := treap.Del(a, garden.LeafOf(a), a.Nodes[int(garden.LeafOf(a)%65536)-1].N)
 	return []api.Arena{put, del, split, ends, join, none, one}
 }
 
@@ -297,10 +298,10 @@ func TestNothingHandedInIsChanged(t *testing.T) {
 	answers(a, r)
 	treap.Right(a, r)
 	treap.Get(a, r, 5)
-	treap.Put(a, r, most+1, 5)
+	treap.Put(a, r, garden.Most+1, 5)
 	treap.Del(a, r, 21)
 	treap.Join(a, r, r)
-	treap.Put(a, at(511, 0), 5, 5)
+	treap.Put(a, garden.At(511, 0), 5, 5)
 	want, _ := roomy()
 	if !slices.Equal(a.Nodes[:84], want.Nodes[:84]) || !slices.Equal(a.Free[:63], want.Free[:63]) {
 		t.Errorf("%v, not %v", a, want)
@@ -313,19 +314,19 @@ func TestAnswersAreNewMemory(t *testing.T) {
 	b, s := roomy()
 	l, want := answers(a, r), answers(b, s)
 	for i := range a.Nodes {
-		a.Nodes[i] = stone
+		a.Nodes[i] = garden.Stone()
 	}
 	for i := range a.Free {
 		a.Free[i] = 99
 	}
 	for i := range l {
-		if !same(l[i], want[i]) || len(l[i].Nodes) != 81 {
+		if !garden.Same(l[i], want[i]) || len(l[i].Nodes) != 81 {
 			t.Errorf("answer %d is changed by what is done to the arena that was handed in", i)
 		}
 		l[i].Nodes[0], l[i].Free[0] = api.Node{}, 98
 		_, _ = append(l[i].Nodes, api.Node{}), append(l[i].Free, 97)
 	}
-	if a.Nodes[0] != stone || a.Nodes[:82][81] != stone || !slices.Equal(a.Free[:63][59:], []int{99, 900, 901, 902}) {
+	if a.Nodes[0] != garden.Stone() || a.Nodes[:82][81] != garden.Stone() || !slices.Equal(a.Free[:63][59:], []int{99, 900, 901, 902}) {
 		t.Error("what is done to answers changes what was handed in")
 	}
 }
@@ -334,10 +335,10 @@ func TestAnswersAreNewMemory(t *testing.T) {
 func TestNothingIsKept(t *testing.T) {
 	a, r := roomy()
 	first := answers(a, r)
-	b, s := garden(upTo(200), 100)
+	b, s := garden.Of(upTo(200), 100)
 	answers(b, s)
 	for i, again := range answers(a, r) {
-		if !same(first[i], again) {
+		if !garden.Same(first[i], again) {
 			t.Errorf("answer %d is another one the second time", i)
 		}
 	}

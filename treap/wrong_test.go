@@ -7,6 +7,7 @@ import (
 
 	"burgeon/api"
 	"burgeon/arena"
+	"burgeon/garden"
 	"burgeon/mix"
 	"burgeon/treap"
 )
@@ -26,7 +27,7 @@ func calls(a api.Arena, r, other api.Ref) []answered {
 	add := func(name string, a api.Arena, err api.Errno, refs ...api.Ref) {
 		l = append(l, answered{name: name, a: a, refs: refs, err: err})
 	}
-	for _, key := range []int64{0, 1, 5, 200, 1000, most, most + 1, -most - 1, topKey, lowKey} {
+	for _, key := range []int64{0, 1, 5, 200, 1000, garden.Most, garden.Most + 1, -garden.Most - 1, garden.Top, garden.Low} {
 		v, err := treap.Get(a, r, key)
 		l = append(l, answered{name: "Get", v: v, err: err})
 		b, s, err := treap.Put(a, r, key, 7)
@@ -48,7 +49,7 @@ func calls(a api.Arena, r, other api.Ref) []answered {
 // refuse has all calls be done with a reference that is no map's, or of an arena that may not be.
 func refuse(t *testing.T, name string, a api.Arena, r, other api.Ref) {
 	t.Helper()
-	before := clone(a)
+	before := garden.Clone(a)
 	if treap.Right(a, r) {
 		t.Errorf("%s: %d is a map's", name, r)
 	}
@@ -57,7 +58,7 @@ func refuse(t *testing.T, name string, a api.Arena, r, other api.Ref) {
 			t.Errorf("%s: %s: %d nodes, %v, %d, %d", name, c.name, len(c.a.Nodes), c.refs, c.v, c.err)
 		}
 	}
-	if !same(a, before) {
+	if !garden.Same(a, before) {
 		t.Errorf("%s: a call changed the arena that it was handed", name)
 	}
 }
@@ -68,13 +69,13 @@ func refuseRef(t *testing.T, name string, a api.Arena, r api.Ref) {
 	if !arena.Right(a) {
 		t.Fatalf("%s: the arena may not be", name)
 	}
-	if isMapAsTold(a, r) {
+	if garden.IsMap(a, r) {
 		t.Fatalf("%s: %d is a map's", name, r)
 	}
 	var other api.Ref
 	if len(a.Free) > 0 && len(a.Nodes) > 2 {
-		a = clone(a)
-		other = planted(&a, itemsOf(5000))
+		a = garden.Clone(a)
+		other = garden.Plant(&a, garden.Items(5000))
 	}
 	refuse(t, name, a, r, other)
 }
@@ -83,14 +84,14 @@ func refuseRef(t *testing.T, name string, a api.Arena, r api.Ref) {
 func spoiled(t *testing.T, name string, change func(n *api.Node, a api.Arena)) {
 	t.Helper()
 	for _, free := range []int{0, 30} {
-		a, r := garden(upTo(12), free)
+		a, r := garden.Of(upTo(12), free)
 		for i, n := range a.Nodes {
 			if n.Kind != api.KTreap {
 				continue
 			}
-			b := clone(a)
+			b := garden.Clone(a)
 			change(&b.Nodes[i], a)
-			if !isMapAsTold(b, r) {
+			if !garden.IsMap(b, r) {
 				refuseRef(t, name, b, r)
 			}
 		}
@@ -119,26 +120,20 @@ func TestWhatIsNot0(t *testing.T) {
 	}
 	for kid := 2; kid < 9; kid++ {
 		spoiled(t, "a Kid beside the first two, which is a map's", func(n *api.Node, a api.Arena) {
-			n.Kids[kid] = leafOf(a)
+			n.Kids[kid] = garden.LeafOf(a)
 		})
 		spoiled(t, "a Kid beside the first two, which has no node", func(n *api.Node, _ api.Arena) {
-			n.Kids[kid] = at(511, 0)
+			n.Kids[kid] = garden.At(511, 0)
 		})
 	}
-}
-
-// leafOf is the reference of a node without kids.
-func leafOf(a api.Arena) api.Ref {
-	i := slices.IndexFunc(a.Nodes, func(n api.Node) bool { return n.Kind == api.KTreap && n.S == 1 })
-	return at(i, a.Nodes[i].Gen)
 }
 
 // freeOf is the reference of a free node, or of a place that the arena does not have.
 func freeOf(a api.Arena) api.Ref {
 	if len(a.Free) == 0 {
-		return at(len(a.Nodes), 0)
+		return garden.At(len(a.Nodes), 0)
 	}
-	return at(a.Free[0], a.Nodes[a.Free[0]].Gen)
+	return garden.At(a.Free[0], a.Nodes[a.Free[0]].Gen)
 }
 
 func TestWrongKids(t *testing.T) {
@@ -149,16 +144,16 @@ func TestWrongKids(t *testing.T) {
 			}
 		})
 		spoiled(t, "a free kid", func(n *api.Node, a api.Arena) { n.Kids[kid] = freeOf(a) })
-		spoiled(t, "a kid of no place", func(n *api.Node, _ api.Arena) { n.Kids[kid] = at(511, 1<<20) })
+		spoiled(t, "a kid of no place", func(n *api.Node, _ api.Arena) { n.Kids[kid] = garden.At(511, 1<<20) })
 		spoiled(t, "a kid less", func(n *api.Node, _ api.Arena) { n.Kids[kid] = 0 })
 		spoiled(t, "the other kid again", func(n *api.Node, _ api.Arena) { n.Kids[kid] = n.Kids[1-kid] })
 		spoiled(t, "itself", func(n *api.Node, a api.Arena) {
 			i := slices.Index(a.Nodes, *n)
-			n.Kids[kid] = at(i, n.Gen)
+			n.Kids[kid] = garden.At(i, n.Gen)
 		})
 		spoiled(t, "a kid of another kind", func(n *api.Node, a api.Arena) {
-			i := slices.IndexFunc(a.Nodes, func(n api.Node) bool { return n.Kind == stone.Kind })
-			n.Kids[kid] = at(i, a.Nodes[i].Gen)
+			i := slices.IndexFunc(a.Nodes, func(n api.Node) bool { return n.Kind == garden.Stone().Kind })
+			n.Kids[kid] = garden.At(i, a.Nodes[i].Gen)
 		})
 	}
 	spoiled(t, "the kids the other way round", func(n *api.Node, _ api.Arena) { n.Kids[0], n.Kids[1] = n.Kids[1], n.Kids[0] })
@@ -166,7 +161,7 @@ func TestWrongKids(t *testing.T) {
 
 // Some of these keys stand in their place by Before alone, and some by their order alone.
 func TestKeysOutOfOrder(t *testing.T) {
-	for _, key := range []int64{1, 5, 6, 7, 12, -5, 100, lowKey, topKey} {
+	for _, key := range []int64{1, 5, 6, 7, 12, -5, 100, garden.Low, garden.Top} {
 		spoiled(t, "another key", func(n *api.Node, _ api.Arena) { n.N = key })
 	}
 }
@@ -178,7 +173,7 @@ func TestThreeInARow(t *testing.T) {
 	for i := range 9 * 9 * 9 * 4 {
 		row := []int64{keys[i%9], keys[i/9%9], keys[i/81%9]}
 		on := []int{i / 729 % 2, i / 1458}
-		a := ground(20)
+		a := garden.Ground(20)
 		r := hung(&a, row, on)
 		fit := fits(row[0], row[1], on[0]) && fits(row[0], row[2], on[0]) && fits(row[1], row[2], on[1])
 		if got := treap.Right(a, r); got != fit {
@@ -202,7 +197,7 @@ func fits(above, key int64, side int) bool {
 
 func TestMoreThan200Keys(t *testing.T) {
 	for _, n := range []int64{201, 202, 256, 300, 511} {
-		a, r := garden(upTo(n), min(60, 511-int(n)))
+		a, r := garden.Of(upTo(n), min(60, 511-int(n)))
 		refuseRef(t, "many keys", a, r)
 		top, _ := arena.Get(a, r)
 		for _, kid := range top.Kids[:2] {
@@ -214,7 +209,7 @@ func TestMoreThan200Keys(t *testing.T) {
 		}
 	}
 	// The sizes do not tell it.
-	a, r := garden(upTo(201), 60)
+	a, r := garden.Of(upTo(201), 60)
 	top := &a.Nodes[int(r%65536)-1]
 	top.S = 200
 	refuseRef(t, "many keys, and another S", a, r)
@@ -228,7 +223,7 @@ func TestRounds(t *testing.T) {
 		copy(n.Kids[:], kids)
 		return n
 	}
-	one, two, three := at(0, 0), at(1, 0), at(2, 0)
+	one, two, three := garden.At(0, 0), garden.At(1, 0), garden.At(2, 0)
 	for _, nodes := range [][]api.Node{
 		{node(5, 1, one)},
 		{node(5, 1, 0, one)},
@@ -259,11 +254,11 @@ func TestKidsTwice(t *testing.T) {
 	keys := byRank(upTo(150))
 	a := api.Arena{}
 	for i, key := range keys {
-		next := at((i+1)%len(keys), 0)
+		next := garden.At((i+1)%len(keys), 0)
 		// So small a size is one more than that of both kids, all the way round.
 		a.Nodes = append(a.Nodes, api.Node{Kind: api.KTreap, N: key, S: -1, Kids: [9]api.Ref{next, next}})
 	}
-	refuse(t, "a round of kids twice", a, at(0, 0), 0)
+	refuse(t, "a round of kids twice", a, garden.At(0, 0), 0)
 	size, last := int64(0), len(a.Nodes)-1
 	for i := range a.Nodes {
 		size = 1 + 2*size
@@ -271,25 +266,25 @@ func TestKidsTwice(t *testing.T) {
 	}
 	a.Nodes[last].Kids = [9]api.Ref{}
 	for i := range last {
-		refuse(t, "a row of kids twice", a, at(i, 0), 0)
+		refuse(t, "a row of kids twice", a, garden.At(i, 0), 0)
 	}
 }
 
 // References that have no node of a map.
 func TestWrongReferences(t *testing.T) {
 	for _, free := range []int{0, 30} {
-		a, r := garden(upTo(12), free)
+		a, r := garden.Of(upTo(12), free)
 		place := int(r%65536) - 1
 		gen := a.Nodes[place].Gen
 		for _, wrong := range []api.Ref{
-			at(place, gen+1), at(place, gen-1), at(place, 0), at(place, 1<<20), at(place, gen) + 1<<37, freeOf(a),
-			at(len(a.Nodes), 0), at(len(a.Nodes), gen), at(511, 0), at(511, 1<<20),
-			513, 65535, 65536, at(512, gen), at(place, 1<<20+1), 1 << 63, math.MaxUint64,
+			garden.At(place, gen+1), garden.At(place, gen-1), garden.At(place, 0), garden.At(place, 1<<20), garden.At(place, gen) + 1<<37, freeOf(a),
+			garden.At(len(a.Nodes), 0), garden.At(len(a.Nodes), gen), garden.At(511, 0), garden.At(511, 1<<20),
+			513, 65535, 65536, garden.At(512, gen), garden.At(place, 1<<20+1), 1 << 63, math.MaxUint64,
 		} {
 			refuseRef(t, "a reference without a node", a, wrong)
 		}
 		for kind := 2; kind <= 7; kind++ {
-			b := clone(a)
+			b := garden.Clone(a)
 			b.Nodes[place].Kind = kind
 			refuseRef(t, "a node of another kind", b, r)
 		}
@@ -299,7 +294,7 @@ func TestWrongReferences(t *testing.T) {
 // A map is one until one of its nodes is dropped, and is none again if its place is used again.
 func TestStaleReferences(t *testing.T) {
 	l := upTo(12)
-	a, r := garden(l, 30)
+	a, r := garden.Of(l, 30)
 	for i, n := range a.Nodes {
 		if n.Kind != api.KTreap {
 			continue
@@ -318,67 +313,19 @@ func TestStaleReferences(t *testing.T) {
 	checkMap(t, a, r, l)
 }
 
-// lame are arenas that may not be, each but for one thing a garden of 12 keys.
-func lame() map[string]api.Arena {
-	a, _ := garden(upTo(12), 30)
-	free := a.Free[3]
-	change := func(how func(b *api.Arena)) api.Arena {
-		b := clone(a)
-		how(&b)
-		return b
-	}
-	return map[string]api.Arena{
-		"no nodes":               {},
-		"no nodes, a free place": {Free: []int{0}},
-		"513 nodes": change(func(b *api.Arena) {
-			for len(b.Nodes) < 513 {
-				b.Nodes = append(b.Nodes, stone)
-			}
-		}),
-		"a place is lacking":             change(func(b *api.Arena) { b.Free = b.Free[1:] }),
-		"no place is free":               change(func(b *api.Arena) { b.Free = nil }),
-		"a place twice":                  change(func(b *api.Arena) { b.Free = append(b.Free, free) }),
-		"a place of a node":              change(func(b *api.Arena) { b.Free = append(b.Free, int(leafOf(a)%65536)-1) }),
-		"a place behind the last one":    change(func(b *api.Arena) { b.Free = append(b.Free, len(b.Nodes)) }),
-		"a place below 0":                change(func(b *api.Arena) { b.Free = append(b.Free, -1) }),
-		"a free node has something":      change(func(b *api.Arena) { b.Nodes[free].S = 1 }),
-		"a free node's generation":       change(func(b *api.Arena) { b.Nodes[free].Gen = -1 }),
-		"a generation that is too great": change(func(b *api.Arena) { b.Nodes[free].Gen = 1<<20 + 1 }),
-		"a stone's Pre":                  change(func(b *api.Arena) { spoilStone(b).Pre = 10 }),
-		"a stone's Suf":                  change(func(b *api.Arena) { spoilStone(b).Suf = -1 }),
-		"a stone's Kid":                  change(func(b *api.Arena) { spoilStone(b).Kids[8] = 513 }),
-	}
-}
-
-// spoilStone is the stone of a garden, to be changed.
-func spoilStone(a *api.Arena) *api.Node {
-	i := slices.IndexFunc(a.Nodes, func(n api.Node) bool { return n.Kind == stone.Kind })
-	return &a.Nodes[i]
-}
-
-func TestArenasThatMayNotBe(t *testing.T) {
-	good, r := garden(upTo(12), 30)
-	if !treap.Right(good, r) || !treap.Right(good, 0) {
-		t.Fatal("a garden is none")
-	}
-	for name, a := range lame() {
-		if arena.Right(a) {
-			t.Fatalf("%s: the arena may be", name)
-		}
-		for _, ref := range []api.Ref{0, r, leafOf(good), at(511, 0), 513, math.MaxUint64} {
-			refuse(t, name, a, ref, 0)
-			refuse(t, name, a, ref, r)
-		}
+func TestNoMaps(t *testing.T) {
+	for _, no := range garden.NoMaps() {
+		refuse(t, no.What, no.Arena, no.Ref, 0)
 	}
 }
 
 // Without a map beside it, and without any node free: what is no map's comes ahead of all other errors.
 func TestErrArgComesFirst(t *testing.T) {
-	a, _ := garden(upTo(200), 0)
-	b, r := garden(upTo(200), 0)
-	b.Nodes[int(leafOf(b)%65536)-1].Suf = 1
+	a, _ := garden.Of(upTo(200), 0)
+	b, r := garden.Of(upTo(200), 0)
+	b.Nodes[int(garden.LeafOf(b)%65536)-1].Suf = 1
 	refuse(t, "200 keys", b, r, 0)
-	refuse(t, "no node", a, at(511, 0), 0)
+	refuse(t, "no node", a, garden.At(511, 0), 0)
 	for _, key := range farKeys {
 		if _, _, err := treap.Put(b, r, key, 1); err != api.ErrArg {
 			t.Errorf("Put %d: %d", key, err)

@@ -2,157 +2,21 @@ package treap_test
 
 import (
 	"cmp"
-	"math"
 	"slices"
 	"testing"
 
 	"burgeon/api"
 	"burgeon/arena"
-	"burgeon/dice"
+	"burgeon/garden"
 	"burgeon/mix"
 	"burgeon/treap"
 )
 
-const (
-	most   = 1 << 30
-	topKey = math.MaxInt64
-	lowKey = math.MinInt64
-)
-
-// at is the reference of a place and a generation.
-func at(place, gen int) api.Ref { return api.Ref(gen)<<16 + api.Ref(place) + 1 }
-
-// ground is an arena of n free nodes, in no order, which were used before.
-func ground(n int) api.Arena {
-	a := api.Arena{Nodes: make([]api.Node, n)}
-	d := dice.From(uint64(n))
-	for i := range n {
-		a.Nodes[i].Gen = d.UpTo(1 << 20)
-		a.Free = slices.Insert(a.Free, d.UpTo(i+1), i)
-	}
-	return a
-}
-
-// itemsOf are keys, sorted, with values of their own.
-func itemsOf(keys ...int64) []api.Item {
-	var l []api.Item
-	for _, key := range keys {
-		l = append(l, api.Item{K: key, V: 1000 + key%1000})
-	}
-	slices.SortFunc(l, func(a, b api.Item) int { return cmp.Compare(a.K, b.K) })
-	return l
-}
-
 // upTo are the keys from 1 to n, with values.
-func upTo(n int64) []api.Item { return from(1, n) }
-
-// from are the keys from one to another one, with values.
-func from(low, high int64) []api.Item {
-	var keys []int64
-	for key := low; key <= high; key++ {
-		keys = append(keys, key)
-	}
-	return itemsOf(keys...)
-}
-
-// planted writes a map into an arena by hand, in its one shape: the key that is Before all others is its top.
-func planted(a *api.Arena, l []api.Item) api.Ref {
-	if len(l) == 0 {
-		return 0
-	}
-	top := 0
-	for i := range l {
-		if mix.Before(l[i].K, l[top].K) {
-			top = i
-		}
-	}
-	low, high := planted(a, l[:top]), planted(a, l[top+1:])
-	return written(a, api.Node{Kind: api.KTreap, N: l[top].K, V: l[top].V, S: int64(len(l)), Kids: [9]api.Ref{low, high}})
-}
-
-// written writes a node into an arena by hand.
-func written(a *api.Arena, n api.Node) api.Ref {
-	last := len(a.Free) - 1
-	place := a.Free[last]
-	a.Free = a.Free[:last]
-	n.Gen = a.Nodes[place].Gen
-	a.Nodes[place] = n
-	return at(place, n.Gen)
-}
-
-// stone is a node of no map.
-var stone = api.Node{Kind: 7, N: 5, V: 6, S: 1, Pre: 8, Suf: 9}
-
-// garden is an arena with a map that was made by hand, a stone, and so many free nodes.
-func garden(l []api.Item, free int) (api.Arena, api.Ref) {
-	a := ground(len(l) + 1 + free)
-	written(&a, stone)
-	r := planted(&a, l)
-	return a, r
-}
-
-// clone is an arena of new memory.
-func clone(a api.Arena) api.Arena {
-	return api.Arena{Nodes: slices.Clone(a.Nodes), Free: slices.Clone(a.Free)}
-}
-
-// same holds arenas against each other.
-func same(a, b api.Arena) bool {
-	return slices.Equal(a.Nodes, b.Nodes) && slices.Equal(a.Free, b.Free)
-}
+func upTo(n int64) []api.Item { return garden.From(1, n, 1) }
 
 // empty tells whether an arena is the zero value.
 func empty(a api.Arena) bool { return len(a.Nodes) == 0 && len(a.Free) == 0 }
-
-// keysAsTold are a map's keys, and whether the reference is a map's, word by word as the chapter says it; a way of over 512 nodes comes back to one of them.
-func keysAsTold(a api.Arena, r api.Ref, way int) ([]int64, bool) {
-	if r == 0 {
-		return nil, true
-	}
-	n, err := arena.Get(a, r)
-	if err != api.OK || way > 512 || n.Kind != api.KTreap || n.Pre != 0 || n.Suf != 0 {
-		return nil, false
-	}
-	for _, kid := range n.Kids[2:] {
-		if kid != 0 {
-			return nil, false
-		}
-	}
-	low, lowIs := keysAsTold(a, n.Kids[0], way+1)
-	if !lowIs {
-		return nil, false
-	}
-	high, highIs := keysAsTold(a, n.Kids[1], way+1)
-	if !highIs || n.S != int64(len(low)+1+len(high)) || n.S > 200 {
-		return nil, false
-	}
-	for _, key := range low {
-		if key >= n.N || !mix.Before(n.N, key) {
-			return nil, false
-		}
-	}
-	for _, key := range high {
-		if key <= n.N || !mix.Before(n.N, key) {
-			return nil, false
-		}
-	}
-	return slices.Concat(low, []int64{n.N}, high), true
-}
-
-// isMapAsTold tells whether a reference is a map's, as the chapter says it.
-func isMapAsTold(a api.Arena, r api.Ref) bool {
-	_, is := keysAsTold(a, r, 1)
-	return is
-}
-
-// held are the items of a map, read node by node.
-func held(a api.Arena, r api.Ref) []api.Item {
-	n, err := arena.Get(a, r)
-	if err != api.OK {
-		return nil
-	}
-	return slices.Concat(held(a, n.Kids[0]), []api.Item{{K: n.N, V: n.V}}, held(a, n.Kids[1]))
-}
 
 // alike tells whether two maps have one shape and content.
 func alike(a api.Arena, r api.Ref, b api.Arena, s api.Ref) bool {
@@ -167,13 +31,13 @@ func alike(a api.Arena, r api.Ref, b api.Arena, s api.Ref) bool {
 // checkMap holds a map against what it must be.
 func checkMap(t *testing.T, a api.Arena, r api.Ref, want []api.Item) {
 	t.Helper()
-	if !treap.Right(a, r) || !isMapAsTold(a, r) {
+	if !treap.Right(a, r) || !garden.IsMap(a, r) {
 		t.Fatalf("%d is no map's", r)
 	}
-	if got := held(a, r); !slices.Equal(got, want) {
+	if got := garden.Held(a, r); !slices.Equal(got, want) {
 		t.Fatalf("held is %v, not %v", got, want)
 	}
-	if b, s := garden(want, 0); !alike(a, r, b, s) {
+	if b, s := garden.Of(want, 0); !alike(a, r, b, s) {
 		t.Fatalf("the map of %v has another shape", want)
 	}
 	for i := 0; i < len(want); i += 1 + len(want)/2 {
@@ -193,10 +57,10 @@ func checkGot(t *testing.T, a api.Arena, r api.Ref, l []api.Item, i int) {
 	if v, err := treap.Get(a, r, key); v != l[i].V || err != api.OK {
 		t.Fatalf("Get %d: %d, %d", key, v, err)
 	}
-	if key < topKey && !has(l, key+1) {
+	if key < garden.Top && !has(l, key+1) {
 		checkNone(t, a, r, key+1)
 	}
-	if key > lowKey && !has(l, key-1) {
+	if key > garden.Low && !has(l, key-1) {
 		checkNone(t, a, r, key-1)
 	}
 }
@@ -280,7 +144,7 @@ func hung(a *api.Arena, keys []int64, on []int) api.Ref {
 	if len(keys) > 1 {
 		n.Kids[on[0]] = hung(a, keys[1:], on[1:])
 	}
-	return written(a, n)
+	return garden.Write(a, n)
 }
 
 // row are so many keys, rising or falling, each Before all that come behind it: the longest such row of some thousand keys, cut.
