@@ -1,4 +1,4 @@
-// Package garden has arenas for the tests of the other packages, and ordered maps in them: written node by node, without the calls that are tested.
+// Package garden has arenas for the tests of the other packages, and ordered maps and tables in them: written node by node, without the calls that are tested.
 package garden
 
 import (
@@ -68,9 +68,23 @@ func StoneOf(a api.Arena) api.Ref {
 	return refOf(a, func(n api.Node) bool { return n.Kind == Stone().Kind })
 }
 
-// LeafOf is the reference of a map's node without kids.
+// LeafOf is the reference of a container's node without kids.
 func LeafOf(a api.Arena) api.Ref {
-	return refOf(a, func(n api.Node) bool { return n.Kind == api.KTreap && n.S == 1 })
+	return refOf(a, func(n api.Node) bool { return isGrown(n) && n.Kids == [9]api.Ref{} })
+}
+
+// isGrown tells whether a node is a container's.
+func isGrown(n api.Node) bool { return n.Kind != 0 && n.Kind != Stone().Kind }
+
+// grown are the places of the nodes of containers.
+func grown(a api.Arena) []int {
+	var places []int
+	for place, n := range a.Nodes {
+		if isGrown(n) {
+			places = append(places, place)
+		}
+	}
+	return places
 }
 
 // refOf is the reference of the first node that is meant.
@@ -122,14 +136,4 @@ func keysIn(a api.Arena, r api.Ref, way int) ([]int64, bool) {
 // all tells whether all keys are such ones.
 func all(keys []int64, are func(key int64) bool) bool {
 	return !slices.ContainsFunc(keys, func(key int64) bool { return !are(key) })
-}
-
-// Clone is an arena of new memory.
-func Clone(a api.Arena) api.Arena {
-	return api.Arena{Nodes: slices.Clone(a.Nodes), Free: slices.Clone(a.Free)}
-}
-
-// Same holds arenas against each other.
-func Same(a, b api.Arena) bool {
-	return slices.Equal(a.Nodes, b.Nodes) && slices.Equal(a.Free, b.Free)
 }

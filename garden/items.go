@@ -122,3 +122,48 @@ func Some[T any](l []T, n int) []T {
 	}
 	return append(out, l[len(l)-1])
 }
+
+// With are items with one more, or with another value of a key.
+func With(l []api.Item, key, v int64) []api.Item {
+	l = append(Without(l, key), api.Item{K: key, V: v})
+	slices.SortFunc(l, func(a, b api.Item) int { return cmp.Compare(a.K, b.K) })
+	return l
+}
+
+// Without are items without a key.
+func Without(l []api.Item, key int64) []api.Item {
+	return slices.DeleteFunc(slices.Clone(l), func(i api.Item) bool { return i.K == key })
+}
+
+// Has tells whether a key is one of items.
+func Has(l []api.Item, key int64) bool {
+	return slices.ContainsFunc(l, func(i api.Item) bool { return i.K == key })
+}
+
+// Shuffled are numbers in an order that is drawn.
+func Shuffled(d *dice.Dice, keys []int64) []int64 {
+	keys = slices.Clone(keys)
+	for i := range keys {
+		j := d.UpTo(i + 1)
+		keys[i], keys[j] = keys[j], keys[i]
+	}
+	return keys
+}
+
+// Orders hands on all orders of keys.
+func Orders(keys []int64, hand func([]int64)) {
+	keys = slices.Clone(keys)
+	var place func(done int)
+	place = func(done int) {
+		if done == len(keys) {
+			hand(keys)
+			return
+		}
+		for i := done; i < len(keys); i++ {
+			keys[done], keys[i] = keys[i], keys[done]
+			place(done + 1)
+			keys[done], keys[i] = keys[i], keys[done]
+		}
+	}
+	place(0)
+}

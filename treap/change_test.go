@@ -23,7 +23,7 @@ func checkPut(t *testing.T, l []api.Item, key, v int64) {
 	if err != api.OK {
 		t.Fatalf("Put %d of %d keys: %d", key, len(l), err)
 	}
-	want := with(l, key, v)
+	want := garden.With(l, key, v)
 	checkMap(t, b, s, want)
 	checkMap(t, b, r, l)
 	checkGrown(t, before, b, wants(len(want)))
@@ -38,7 +38,7 @@ var edgeKeys = []int64{-garden.Most, -garden.Most + 1, -101, -100, -1, 0, 1, 2, 
 func TestPut(t *testing.T) {
 	for _, l := range contents() {
 		for _, key := range edgeKeys {
-			if len(l) < 200 || has(l, key) {
+			if len(l) < 200 || garden.Has(l, key) {
 				checkPut(t, l, key, 77)
 			}
 		}
@@ -64,10 +64,10 @@ func TestPutAt200Keys(t *testing.T) {
 		step = 11
 		a, r := garden.Of(l, 300)
 		for _, key := range append(edgeKeys, l[0].K-1, l[199].K+1) {
-			if has(l, key) {
+			if garden.Has(l, key) {
 				continue
 			}
-			if b, s, err := treap.Put(a, r, key, 77); err != api.ErrRange || s != 0 || !empty(b) {
+			if b, s, err := treap.Put(a, r, key, 77); err != api.ErrRange || s != 0 || !garden.Empty(b) {
 				t.Errorf("Put %d: %d nodes, %d, %d", key, len(b.Nodes), s, err)
 			}
 		}
@@ -91,7 +91,7 @@ func TestPutOfThe201stKey(t *testing.T) {
 	if err != api.OK {
 		t.Fatalf("Put of the 200th key: %d", err)
 	}
-	checkMap(t, a, r, with(without(upTo(200), 100), 201, 1))
+	checkMap(t, a, r, garden.With(garden.Without(upTo(200), 100), 201, 1))
 }
 
 // farKeys are keys that are not put.
@@ -101,7 +101,7 @@ func TestPutOfKeysBeyond(t *testing.T) {
 	for _, l := range contents() {
 		a, r := garden.Of(l, room(len(l)))
 		for _, key := range farKeys { // some are there, too
-			if b, s, err := treap.Put(a, r, key, 1); err != api.ErrRange || s != 0 || !empty(b) {
+			if b, s, err := treap.Put(a, r, key, 1); err != api.ErrRange || s != 0 || !garden.Empty(b) {
 				t.Errorf("Put %d of %v: %d nodes, %d, %d", key, l, len(b.Nodes), s, err)
 			}
 		}
@@ -114,8 +114,8 @@ func checkDel(t *testing.T, l []api.Item, key int64) {
 	a, r := garden.Of(l, room(len(l)))
 	before := garden.Clone(a)
 	b, s, err := treap.Del(a, r, key)
-	if !has(l, key) {
-		if err != api.ErrNone || s != 0 || !empty(b) {
+	if !garden.Has(l, key) {
+		if err != api.ErrNone || s != 0 || !garden.Empty(b) {
 			t.Fatalf("Del %d of %v: %d nodes, %d, %d", key, l, len(b.Nodes), s, err)
 		}
 		return
@@ -123,7 +123,7 @@ func checkDel(t *testing.T, l []api.Item, key int64) {
 	if err != api.OK {
 		t.Fatalf("Del %d of %v: %d", key, l, err)
 	}
-	want := without(l, key)
+	want := garden.Without(l, key)
 	checkMap(t, b, s, want)
 	checkMap(t, b, r, l)
 	checkGrown(t, before, b, wants(len(want)))
@@ -245,7 +245,7 @@ func TestJoin(t *testing.T) {
 func refuseJoin(t *testing.T, left, right []api.Item) {
 	t.Helper()
 	a, r, s := pair(left, right)
-	if b, u, err := treap.Join(a, r, s); err != api.ErrRange || u != 0 || !empty(b) {
+	if b, u, err := treap.Join(a, r, s); err != api.ErrRange || u != 0 || !garden.Empty(b) {
 		t.Errorf("Join of %v and %v: %d nodes, %d, %d", left, right, len(b.Nodes), u, err)
 	}
 }
@@ -281,14 +281,14 @@ func TestJoinOfKeysThatAreNotBelow(t *testing.T) {
 // A map is not put together with itself, nor with a part of it, but an empty one is.
 func TestJoinOfOneMapTwice(t *testing.T) {
 	a, r := garden.Of(upTo(10), 30)
-	if b, s, err := treap.Join(a, r, r); err != api.ErrRange || s != 0 || !empty(b) {
+	if b, s, err := treap.Join(a, r, r); err != api.ErrRange || s != 0 || !garden.Empty(b) {
 		t.Errorf("Join of a map with itself: %d nodes, %d, %d", len(b.Nodes), s, err)
 	}
 	for i, n := range a.Nodes {
 		if n.Kind != api.KTreap {
 			continue
 		}
-		if b, s, err := treap.Join(a, r, garden.At(i, n.Gen)); err != api.ErrRange || s != 0 || !empty(b) {
+		if b, s, err := treap.Join(a, r, garden.At(i, n.Gen)); err != api.ErrRange || s != 0 || !garden.Empty(b) {
 			t.Errorf("Join of a map with a part of it: %d nodes, %d, %d", len(b.Nodes), s, err)
 		}
 		checkPartsJoined(t, a, n)

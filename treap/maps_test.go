@@ -6,7 +6,6 @@ import (
 	"testing"
 
 	"burgeon/api"
-	"burgeon/arena"
 	"burgeon/garden"
 	"burgeon/mix"
 	"burgeon/treap"
@@ -14,19 +13,6 @@ import (
 
 // upTo are the keys from 1 to n, with values.
 func upTo(n int64) []api.Item { return garden.From(1, n, 1) }
-
-// empty tells whether an arena is the zero value.
-func empty(a api.Arena) bool { return len(a.Nodes) == 0 && len(a.Free) == 0 }
-
-// alike tells whether two maps have one shape and content.
-func alike(a api.Arena, r api.Ref, b api.Arena, s api.Ref) bool {
-	if r == 0 || s == 0 {
-		return r == s
-	}
-	n, _ := arena.Get(a, r)
-	m, _ := arena.Get(b, s)
-	return n.N == m.N && n.V == m.V && n.S == m.S && alike(a, n.Kids[0], b, m.Kids[0]) && alike(a, n.Kids[1], b, m.Kids[1])
-}
 
 // checkMap holds a map against what it must be.
 func checkMap(t *testing.T, a api.Arena, r api.Ref, want []api.Item) {
@@ -37,7 +23,7 @@ func checkMap(t *testing.T, a api.Arena, r api.Ref, want []api.Item) {
 	if got := garden.Held(a, r); !slices.Equal(got, want) {
 		t.Fatalf("held is %v, not %v", got, want)
 	}
-	if b, s := garden.Of(want, 0); !alike(a, r, b, s) {
+	if b, s := garden.Of(want, 0); !garden.Alike(a, r, b, s) {
 		t.Fatalf("the map of %v has another shape", want)
 	}
 	for i := 0; i < len(want); i += 1 + len(want)/2 {
@@ -57,10 +43,10 @@ func checkGot(t *testing.T, a api.Arena, r api.Ref, l []api.Item, i int) {
 	if v, err := treap.Get(a, r, key); v != l[i].V || err != api.OK {
 		t.Fatalf("Get %d: %d, %d", key, v, err)
 	}
-	if key < garden.Top && !has(l, key+1) {
+	if key < garden.Top && !garden.Has(l, key+1) {
 		checkNone(t, a, r, key+1)
 	}
-	if key > garden.Low && !has(l, key-1) {
+	if key > garden.Low && !garden.Has(l, key-1) {
 		checkNone(t, a, r, key-1)
 	}
 }
@@ -73,36 +59,12 @@ func checkNone(t *testing.T, a api.Arena, r api.Ref, key int64) {
 	}
 }
 
-// checkGrown holds an arena against the one that it comes of: what was a node is that one, node by node, and the others were made of the last free ones, at most so many.
+// checkGrown holds an arena against the one that it comes of: at most so many nodes are made, and all else is as it was.
 func checkGrown(t *testing.T, before, a api.Arena, need int) {
 	t.Helper()
-	if !arena.Right(a) || len(a.Nodes) != len(before.Nodes) || len(a.Free) > len(before.Free) {
-		t.Fatalf("%d nodes and %d free of %d and %d, right %v", len(a.Nodes), len(a.Free), len(before.Nodes), len(before.Free), arena.Right(a))
+	if made, is := garden.Grown(before, a); !is || made > need {
+		t.Fatalf("%d nodes are made, at most %d; all else as it was: %v", made, need, is)
 	}
-	if n := len(before.Free) - len(a.Free); n > need {
-		t.Fatalf("%d nodes are made, more than %d", n, need)
-	}
-	if !slices.Equal(a.Free, before.Free[:len(a.Free)]) {
-		t.Fatalf("%v is free of %v", a.Free, before.Free)
-	}
-	for i, n := range before.Nodes {
-		if n.Kind != 0 && a.Nodes[i] != n {
-			t.Fatalf("at %d there is %v, and was %v", i, a.Nodes[i], n)
-		}
-		if a.Nodes[i].Gen != n.Gen {
-			t.Fatalf("at %d there is generation %d, and was %d", i, a.Nodes[i].Gen, n.Gen)
-		}
-	}
-}
-
-// with are items with one more, or with another value of a key.
-func with(l []api.Item, key, v int64) []api.Item {
-	return slices.Concat(below(l, key), []api.Item{{K: key, V: v}}, without(others(l, key), key))
-}
-
-// without are items without a key.
-func without(l []api.Item, key int64) []api.Item {
-	return slices.DeleteFunc(slices.Clone(l), func(i api.Item) bool { return i.K == key })
 }
 
 // below are the items of the keys below one.
@@ -113,11 +75,6 @@ func below(l []api.Item, key int64) []api.Item {
 // others are the items of the keys that are not below one.
 func others(l []api.Item, key int64) []api.Item {
 	return slices.DeleteFunc(slices.Clone(l), func(i api.Item) bool { return i.K < key })
-}
-
-// has tells whether a key is one of items.
-func has(l []api.Item, key int64) bool {
-	return slices.ContainsFunc(l, func(i api.Item) bool { return i.K == key })
 }
 
 // wants are the nodes that a call needs at most, if its answer has so many keys.

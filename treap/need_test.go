@@ -22,7 +22,7 @@ func putting(l []api.Item, key, v int64) change {
 	return change{"Put", func(a api.Arena, r api.Ref) (api.Arena, []api.Ref, api.Errno) {
 		b, s, err := treap.Put(a, r, key, v)
 		return b, []api.Ref{s}, err
-	}, [][]api.Item{with(l, key, v)}}
+	}, [][]api.Item{garden.With(l, key, v)}}
 }
 
 // deleting is Del, as a change of items.
@@ -30,7 +30,7 @@ func deleting(l []api.Item, key int64) change {
 	return change{"Del", func(a api.Arena, r api.Ref) (api.Arena, []api.Ref, api.Errno) {
 		b, s, err := treap.Del(a, r, key)
 		return b, []api.Ref{s}, err
-	}, [][]api.Item{without(l, key)}}
+	}, [][]api.Item{garden.Without(l, key)}}
 }
 
 // splitting is Split, as a change of items.
@@ -48,17 +48,17 @@ func joining(l []api.Item) change {
 		n, _ := arena.Get(a, r)
 		b, s, err := treap.Join(a, n.Kids[0], n.Kids[1])
 		return b, []api.Ref{s}, err
-	}, [][]api.Item{without(l, top)}}
+	}, [][]api.Item{garden.Without(l, top)}}
 }
 
 // changes are changes of items that are not done with an error.
 func changes(l []api.Item) []change {
 	var out []change
 	for _, key := range someKeys(l) {
-		if len(l) < 200 || has(l, key) {
+		if len(l) < 200 || garden.Has(l, key) {
 			out = append(out, putting(l, key, 7))
 		}
-		if has(l, key) {
+		if garden.Has(l, key) {
 			out = append(out, deleting(l, key))
 		}
 		out = append(out, splitting(l, key))
@@ -101,7 +101,7 @@ func (c change) try(t *testing.T, l []api.Item, free int) int {
 		t.Fatalf("%s changed the arena that it was handed", c.name)
 	}
 	if err == api.ErrFull {
-		if !empty(b) || slices.Max(refs) != 0 {
+		if !garden.Empty(b) || slices.Max(refs) != 0 {
 			t.Fatalf("%s where none is free: %d nodes, %v", c.name, len(b.Nodes), refs)
 		}
 		return -1
@@ -208,7 +208,7 @@ func TestWhatIsMade(t *testing.T) {
 			}
 			for _, p := range isNew {
 				n := b.Nodes[p]
-				if slices.ContainsFunc(was, func(old int) bool { return alike(b, garden.At(p, n.Gen), b, garden.At(old, b.Nodes[old].Gen)) }) {
+				if slices.ContainsFunc(was, func(old int) bool { return garden.Alike(b, garden.At(p, n.Gen), b, garden.At(old, b.Nodes[old].Gen)) }) {
 					t.Fatalf("%s of %v makes %v, which was there", c.name, l, n)
 				}
 			}
@@ -244,7 +244,7 @@ func TestWhereNoneIsFree(t *testing.T) {
 	for key := int64(1); key <= 200; key++ {
 		b, s, err := treap.Put(a, r, key, 1)
 		full("Put of a key that is there", err, api.ErrFull)
-		if !empty(b) || s != 0 {
+		if !garden.Empty(b) || s != 0 {
 			t.Errorf("beside ErrFull: %d nodes, %d", len(b.Nodes), s)
 		}
 	}
@@ -283,9 +283,9 @@ func TestThreeNodes(t *testing.T) {
 		if a, r, err = treap.Put(a, r, key, 7); err != api.OK {
 			t.Fatalf("Put %d: %d", key, err)
 		}
-		l = with(l, key, 7)
+		l = garden.With(l, key, 7)
 	}
-	if b, s, err := treap.Put(a, r, 0, 7); err != api.ErrFull || s != 0 || !empty(b) {
+	if b, s, err := treap.Put(a, r, 0, 7); err != api.ErrFull || s != 0 || !garden.Empty(b) {
 		t.Errorf("Put of the fourth key: %d nodes, %d, %d", len(b.Nodes), s, err)
 	}
 	checkMap(t, a, r, l)

@@ -77,7 +77,7 @@ func TestGet(t *testing.T) {
 			checkGot(t, a, r, l, i)
 		}
 		for _, key := range []int64{0, 1, -1, 6, garden.Most, -garden.Most, garden.Most + 1, -garden.Most - 1, garden.Top, garden.Low} {
-			if !has(l, key) {
+			if !garden.Has(l, key) {
 				checkNone(t, a, r, key)
 			}
 		}

@@ -30,7 +30,7 @@ type play struct {
 func (p *play) come(name string, a api.Arena, err api.Errno, need int, maps ...kept) {
 	p.t.Helper()
 	if err == api.ErrFull {
-		if len(p.a.Free) >= need || !empty(a) {
+		if len(p.a.Free) >= need || !garden.Empty(a) {
 			p.t.Fatalf("%s: none is free of %d, with a need of %d", name, len(p.a.Free), need)
 		}
 		p.tidy()
@@ -63,18 +63,7 @@ func (p *play) tidy() {
 	for _, m := range p.maps {
 		refs = append(refs, m.r)
 	}
-	used := places(p.t, p.a, refs...)
-	var gone []int
-	for i, n := range p.a.Nodes {
-		if n.Kind != 0 && !slices.Contains(used, i) {
-			gone = append(gone, i)
-		}
-	}
-	a, err := arena.Drop(p.a, gone...)
-	if err != api.OK {
-		p.t.Fatalf("Drop: %d", err)
-	}
-	p.a = a
+	p.a = garden.Tidied(p.a, refs...)
 }
 
 // drawn is one of the maps, and often one that has many keys.
@@ -104,7 +93,7 @@ func (p *play) turn() {
 	case 2:
 		p.join(m, p.drawn())
 	default:
-		l := with(m.l, key, v)
+		l := garden.With(m.l, key, v)
 		a, s, err := treap.Put(p.a, m.r, key, v)
 		p.come("Put", a, err, wants(len(l)), kept{s, l})
 	}
@@ -114,10 +103,10 @@ func (p *play) turn() {
 func (p *play) del(m kept, key int64) {
 	p.t.Helper()
 	a, s, err := treap.Del(p.a, m.r, key)
-	if has(m.l, key) {
-		l := without(m.l, key)
+	if garden.Has(m.l, key) {
+		l := garden.Without(m.l, key)
 		p.come("Del", a, err, wants(len(l)), kept{s, l})
-	} else if err != api.ErrNone || s != 0 || !empty(a) {
+	} else if err != api.ErrNone || s != 0 || !garden.Empty(a) {
 		p.t.Fatalf("Del of no key: %d, %d", s, err)
 	}
 }
@@ -129,7 +118,7 @@ func (p *play) join(m, o kept) {
 	if len(m.l) == 0 || len(o.l) == 0 || m.l[len(m.l)-1].K < o.l[0].K {
 		l := slices.Concat(m.l, o.l)
 		p.come("Join", a, err, wants(len(l)), kept{s, l})
-	} else if err != api.ErrRange || s != 0 || !empty(a) {
+	} else if err != api.ErrRange || s != 0 || !garden.Empty(a) {
 		p.t.Fatalf("Join: %d, %d", s, err)
 	}
 }
@@ -170,43 +159,16 @@ func (p *play) put(key, v int64) {
 	p.tidy()
 }
 
-// orders hands on all orders of keys.
-func orders(keys []int64, hand func([]int64)) {
-	var place func(done int)
-	place = func(done int) {
-		if done == len(keys) {
-			hand(keys)
-			return
-		}
-		for i := done; i < len(keys); i++ {
-			keys[done], keys[i] = keys[i], keys[done]
-			place(done + 1)
-			keys[done], keys[i] = keys[i], keys[done]
-		}
-	}
-	place(0)
-}
-
 func TestOneShapeForAllOrders(t *testing.T) {
 	for _, keys := range [][]int64{{1, 5, 9}, {-7, 3, 0, 4, 5}, {-garden.Most, -1, 0, 1, garden.Most}, row(5, true)} {
 		first, r := grow(t, keys)
-		orders(slices.Clone(keys), func(order []int64) {
+		garden.Orders(slices.Clone(keys), func(order []int64) {
 			a, s := grow(t, order)
-			if !alike(first, r, a, s) {
+			if !garden.Alike(first, r, a, s) {
 				t.Errorf("put as %v, the map has another shape", order)
 			}
 		})
 	}
-}
-
-// shuffled are numbers in an order that is drawn.
-func shuffled(d *dice.Dice, keys []int64) []int64 {
-	keys = slices.Clone(keys)
-	for i := range keys {
-		j := d.UpTo(i + 1)
-		keys[i], keys[j] = keys[j], keys[i]
-	}
-	return keys
 }
 
 // 200 keys come in diverse orders, each at last with the same value.
@@ -222,8 +184,8 @@ func TestOneShapeOf200Keys(t *testing.T) {
 	checkMap(t, first, r, want)
 	rising := slices.Clone(keys)
 	slices.Reverse(keys)
-	for _, order := range [][]int64{rising, keys, shuffled(d, keys), slices.Concat(keys[:50], shuffled(d, keys))} {
-		if a, s := grow(t, order); !alike(first, r, a, s) {
+	for _, order := range [][]int64{rising, keys, garden.Shuffled(d, keys), slices.Concat(keys[:50], garden.Shuffled(d, keys))} {
+		if a, s := grow(t, order); !garden.Alike(first, r, a, s) {
 			t.Errorf("put as %v, the map has another shape", order)
 		}
 	}
@@ -242,7 +204,7 @@ func TestOneShapeByOtherCalls(t *testing.T) {
 	}
 	d := dice.From(65)
 	for i := range int64(21) {
-		a, r := grow(t, shuffled(d, more))
+		a, r := grow(t, garden.Shuffled(d, more))
 		a, _, r, err := treap.Split(a, r, 0)
 		a, r, _, errSplit := treap.Split(a, r, 20)
 		if err != api.OK || errSplit != api.OK {
@@ -256,8 +218,8 @@ func TestOneShapeByOtherCalls(t *testing.T) {
 		}
 		checkMap(t, a, r, want)
 
-		b, s := grow(t, shuffled(d, more))
-		for _, key := range shuffled(d, more) {
+		b, s := grow(t, garden.Shuffled(d, more))
+		for _, key := range garden.Shuffled(d, more) {
 			if slices.Contains(wanted, key) {
 				continue
 			}
@@ -266,19 +228,14 @@ func TestOneShapeByOtherCalls(t *testing.T) {
 			}
 		}
 		checkMap(t, b, s, want)
-		if !alike(a, r, b, s) {
+		if !garden.Alike(a, r, b, s) {
 			t.Fatal("two maps of one content have two shapes")
 		}
 	}
 }
 
-// roomy is a garden whose lists have room behind them, which is filled.
-func roomy() (api.Arena, api.Ref) {
-	a, r := garden.Of(upTo(20), 60)
-	nodes := append(a.Nodes, garden.Stone(), garden.Stone(), garden.Stone())
-	free := append(a.Free, 900, 901, 902)
-	return api.Arena{Nodes: nodes[:81], Free: free[:60]}, r
-}
+// roomy is an arena with a map.
+func roomy() (api.Arena, api.Ref) { return garden.Of(upTo(20), 60) }
 
 // answers are arenas that calls answer of one; some of these make nodes, and some make none.
 func answers(a api.Arena, r api.Ref) []api.Arena {
@@ -292,42 +249,19 @@ func answers(a api.Arena, r api.Ref) []api.Arena {
 	return []api.Arena{put, del, split, ends, join, none, one}
 }
 
-// No list that is handed in is changed, not behind its length either, whatever a call answers.
-func TestNothingHandedInIsChanged(t *testing.T) {
-	a, r := roomy()
-	answers(a, r)
-	treap.Right(a, r)
-	treap.Get(a, r, 5)
-	treap.Put(a, r, garden.Most+1, 5)
-	treap.Del(a, r, 21)
-	treap.Join(a, r, r)
-	treap.Put(a, garden.At(511, 0), 5, 5)
-	want, _ := roomy()
-	if !slices.Equal(a.Nodes[:84], want.Nodes[:84]) || !slices.Equal(a.Free[:63], want.Free[:63]) {
-		t.Errorf("%v, not %v", a, want)
-	}
-}
-
-// What a call answered stays as it is, whatever is done to what it was handed.
-func TestAnswersAreNewMemory(t *testing.T) {
-	a, r := roomy()
-	b, s := roomy()
-	l, want := answers(a, r), answers(b, s)
-	for i := range a.Nodes {
-		a.Nodes[i] = garden.Stone()
-	}
-	for i := range a.Free {
-		a.Free[i] = 99
-	}
-	for i := range l {
-		if !garden.Same(l[i], want[i]) || len(l[i].Nodes) != 81 {
-			t.Errorf("answer %d is changed by what is done to the arena that was handed in", i)
-		}
-		l[i].Nodes[0], l[i].Free[0] = api.Node{}, 98
-		_, _ = append(l[i].Nodes, api.Node{}), append(l[i].Free, 97)
-	}
-	if a.Nodes[0] != garden.Stone() || a.Nodes[:82][81] != garden.Stone() || !slices.Equal(a.Free[:63][59:], []int{99, 900, 901, 902}) {
-		t.Error("what is done to answers changes what was handed in")
+// No list that is handed in is changed, not behind its length either, whatever a call answers; and what is answered is new memory.
+func TestNothingIsShared(t *testing.T) {
+	what := garden.Shared(roomy, func(a api.Arena, r api.Ref) []api.Arena {
+		treap.Right(a, r)
+		treap.Get(a, r, 5)
+		treap.Put(a, r, garden.Most+1, 5)
+		treap.Del(a, r, 21)
+		treap.Join(a, r, r)
+		treap.Put(a, garden.At(511, 0), 5, 5)
+		return answers(a, r)
+	})
+	if what != "" {
+		t.Error(what)
 	}
 }
 

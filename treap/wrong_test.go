@@ -54,7 +54,7 @@ func refuse(t *testing.T, name string, a api.Arena, r, other api.Ref) {
 		t.Errorf("%s: %d is a map's", name, r)
 	}
 	for _, c := range calls(a, r, other) {
-		if c.err != api.ErrArg || c.v != 0 || !empty(c.a) || slices.Max(append(c.refs, 0)) != 0 {
+		if c.err != api.ErrArg || c.v != 0 || !garden.Empty(c.a) || slices.Max(append(c.refs, 0)) != 0 {
 			t.Errorf("%s: %s: %d nodes, %v, %d, %d", name, c.name, len(c.a.Nodes), c.refs, c.v, c.err)
 		}
 	}
